@@ -1,0 +1,1 @@
+"""Bandsplits: rows of samples split into two bands, decided for all rows."""
