@@ -1,6 +1,6 @@
 """Polynomials with whole numbers: lists of these, that of the lowest power first.
 
-The nought polynomial is the empty list; all others end with a number other than 0.
+The nought polynomial is the empty list; all others end with a number other than 0, if nothing else is said.
 """
 
 from math import gcd
@@ -23,6 +23,46 @@ def product_of(numbers, others):
     return out
 
 
+def product_at(numbers, others, place):
+    """The number at the place of the product of two polynomials."""
+    first = max(0, place - len(others) + 1)
+    end = min(place + 1, len(numbers))
+    return sum([numbers[at] * others[place - at] for at in range(first, end)])
+
+
+def weighed_sum(weight, numbers, other_weight, others):
+    """The sum of both polynomials, each times its weight."""
+    out = [0] * max(len(numbers), len(others))
+    for place, number in enumerate(numbers):
+        out[place] += weight * number
+    for place, number in enumerate(others):
+        out[place] += other_weight * number
+    return without_top(out)
+
+
+def slope_of(numbers):
+    """The derivative of a polynomial."""
+    return [place * number for place, number in enumerate(numbers) if place > 0]
+
+
+def value_of(numbers, place):
+    """The polynomial's value at a whole number."""
+    total = 0
+    for number in reversed(numbers):
+        total = total * place + number
+    return total
+
+
+def value_at_ratio(numbers, top, bottom):
+    """The polynomial's value at top / bottom, times the bottom to the power of len(numbers) - 1."""
+    total = 0
+    power = 1
+    for number in reversed(numbers):
+        total = total * top + number * power
+        power = power * bottom
+    return total
+
+
 def span_without(numbers, nought):
     """The pair of the first place and the end that are left when noughts are taken off both ends."""
     first, end = 0, len(numbers)
@@ -33,10 +73,9 @@ def span_without(numbers, nought):
     return (first, end)
 
 
-def without_ends(numbers):
-    """The list without the noughts at both of its ends."""
-    first, end = span_without(numbers, 0)
-    return numbers[first:end]
+def without_top(numbers):
+    """The list without the noughts at its end."""
+    return numbers[:span_without(numbers, 0)[1]]
 
 
 def content_of(numbers):
@@ -72,30 +111,52 @@ def whole_quotient(numbers, divisor):
     return out
 
 
-def rest_of(numbers, divisor):
-    """What division leaves, times some number other than 0 and without its noughts at both ends."""
+def division_of(numbers, divisor):
+    """What division leaves, and the steps (place, up, down) that lead there, the first one first.
+
+    Each step multiplies what was left by up, and takes away down times the divisor, moved to the place.
+    The rest is shorter than the divisor, and may end with noughts.
+    """
     rest = list(numbers)
-    while len(rest) >= len(divisor):
-        # Both are multiplied up rather than divided, so that the numbers stay whole.
-        common = gcd(rest[-1], divisor[-1])
-        up, down = divisor[-1] // common, rest[-1] // common
-        rest = without_ends(less_at_top(rest, up, divisor, down))
-    return rest
+    lead = divisor[-1]
+    filled = [(place, number) for place, number in enumerate(divisor) if number != 0]
+    steps = []
+    for at in reversed(range(max(0, len(numbers) - len(divisor) + 1))):
+        if rest[-1] != 0:
+            # Both are multiplied up rather than divided, so that the numbers stay whole.
+            common = gcd(rest[-1], lead)
+            up, down = lead // common, rest[-1] // common
+            if up != 1:
+                rest = [up * number for number in rest]
+            for place, number in filled:
+                rest[at + place] -= down * number
+            steps.append((at, up, down))
+        rest.pop()
+    return (rest, steps)
 
 
-def less_at_top(numbers, up, divisor, down):
-    """up times the numbers, less down times the divisor, the last places of both being the same."""
-    out = [up * number for number in numbers]
-    ahead = len(numbers) - len(divisor)
-    for place, number in enumerate(divisor):
-        out[ahead + place] -= down * number
+def multiplier_of(steps):
+    """The number by which the steps of a division have multiplied."""
+    out = 1
+    for step in steps:
+        out = out * step[1]
+    return out
+
+
+def quotient_of(steps):
+    """The polynomial, times the multiplier of the steps, that a division's steps have taken the divisor by."""
+    out = [0] * (1 + max([step[0] for step in steps], default=-1))
+    power = 1
+    for at, up, down in reversed(steps):
+        out[at] = down * power
+        power = power * up
     return out
 
 
 def have_no_common_factor_by_prime(numbers, others):
     """True if it can be seen modulo PRIME that no polynomial but numbers divides both."""
-    # A common factor keeps both of its ends modulo PRIME if one of both polynomials does.
-    if numbers[0] % PRIME == 0 or numbers[-1] % PRIME == 0:
+    # A common factor keeps its length modulo PRIME if one of both polynomials does.
+    if numbers[-1] % PRIME == 0:
         return False
     first, second = modulo_prime(numbers), modulo_prime(others)
     while second:
@@ -104,23 +165,77 @@ def have_no_common_factor_by_prime(numbers, others):
 
 
 def modulo_prime(numbers):
-    """The rests of the numbers, without noughts at both ends."""
-    return without_ends([number % PRIME for number in numbers])
+    """The rests of the numbers, without noughts at the end."""
+    return without_top([number % PRIME for number in numbers])
 
 
 def rest_modulo_prime(numbers, divisor):
-    """As rest_of, modulo PRIME."""
+    """What division leaves modulo PRIME, times some number other than 0."""
     rest = numbers
     while len(rest) >= len(divisor):
-        rest = modulo_prime(less_at_top(rest, divisor[-1], divisor, rest[-1]))
+        ahead = len(rest) - len(divisor)
+        up, down = divisor[-1], rest[-1]
+        out = [up * number for number in rest]
+        for place, number in enumerate(divisor):
+            out[ahead + place] -= down * number
+        rest = modulo_prime(out)
     return rest
 
 
 def greatest_common(numbers, others):
-    """The greatest polynomial that divides both, up to a number; of both the first number is not 0."""
-    if numbers and others and have_no_common_factor_by_prime(numbers, others):
+    """The greatest polynomial that divides both, up to a number; no number above 1 divides all of its numbers."""
+    if not numbers or not others:
+        return over_content(numbers or others)
+    if have_no_common_factor_by_prime(numbers, others):
         return [1]
-    first, second = numbers, others
-    while second:
-        first, second = second, over_content(rest_of(first, second))
-    return first
+    first, second = over_content(numbers), over_content(others)
+    # Char, Geddes, Gonnet: with such a base, and greater ones, what divides both is the greatest.
+    base = 2 * min(size_of(first), size_of(second)) + 29
+    while True:
+        found = over_content(digits_of(gcd(value_of(first, base), value_of(second, base)), base))
+        if whole_quotient(first, found) is not None and whole_quotient(second, found) is not None:
+            return found
+        base = base * 3 + 1
+
+
+def size_of(numbers):
+    """The greatest of the numbers without their signs."""
+    return max([abs(number) for number in numbers])
+
+
+def digits_of(number, base):
+    """The polynomial whose value at the base is the number, with numbers not beyond half the base."""
+    rest = number
+    out = []
+    while rest != 0:
+        digit = rest % base
+        if 2 * digit > base:
+            digit = digit - base
+        out.append(digit)
+        rest = (rest - digit) // base
+    return out
+
+
+def simple_part(numbers):
+    """The product of all factors of a polynomial other than nought, each one once, up to a number."""
+    return whole_quotient(over_content(numbers), greatest_common(numbers, slope_of(numbers)))
+
+
+def odd_part_of_roots(numbers):
+    """A polynomial that has the same sign wherever the first is not 0, and none of its factors twice."""
+    rest = greatest_common(numbers, slope_of(numbers))
+    if len(rest) == 1:
+        return numbers
+    left = whole_quotient(over_content(numbers), rest)
+    out = [1]
+    is_odd = True
+    # In each turn what is left are the factors that are there at least so often (Musser).
+    while len(left) > 1:
+        more = greatest_common(left, rest)
+        if is_odd:
+            out = product_of(out, whole_quotient(left, more))
+        left, rest = more, whole_quotient(rest, more)
+        is_odd = not is_odd
+    if (out[-1] > 0) != (numbers[-1] > 0):
+        out = [-number for number in out]
+    return out

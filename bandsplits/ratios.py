@@ -2,9 +2,10 @@
 
 from math import gcd, lcm
 
-from bandsplits.errors import InvalidNumber
+from bandsplits.errors import HighBelowLow, InvalidFraction, InvalidNumber
 
 ZERO = (0, 1)
+ONE = (1, 1)
 
 
 def is_whole(value):
@@ -25,6 +26,11 @@ def need_whole_between(value, least, greatest):
         raise InvalidNumber(value)
 
 
+def need_many(many):
+    """Raise InvalidNumber for what is no whole number from 1 to 10 ** 12."""
+    need_whole_between(many, 1, 10 ** 12)
+
+
 def is_fraction(value):
     """Whether a value, whatever it is, is a fraction."""
     if not isinstance(value, tuple) or len(value) != 2:
@@ -33,6 +39,20 @@ def is_fraction(value):
     if not is_whole(top) or not is_whole(bottom):
         return False
     return bottom > 0 and gcd(top, bottom) == 1
+
+
+def need_fraction(value):
+    """Raise InvalidFraction for what is no fraction."""
+    if not is_fraction(value):
+        raise InvalidFraction(value)
+
+
+def need_ends(low, high):
+    """Raise InvalidFraction for what is no fraction, then HighBelowLow for ends in the wrong order."""
+    need_fraction(low)
+    need_fraction(high)
+    if is_below(high, low):
+        raise HighBelowLow(high)
 
 
 def reduced(top, bottom):
@@ -45,12 +65,38 @@ def reduced(top, bottom):
 
 def plus(number, other):
     """The sum of two fractions."""
+    # Long numbers would take their time, and 0 is the one that is added most.
+    if number[0] == 0:
+        return other
+    if other[0] == 0:
+        return number
     return reduced(number[0] * other[1] + other[0] * number[1], number[1] * other[1])
 
 
 def minus(number):
     """The opposite of a fraction."""
     return (-number[0], number[1])
+
+
+def times(number, other):
+    """The product of two fractions."""
+    return reduced(number[0] * other[0], number[1] * other[1])
+
+
+def over(number, other):
+    """The first fraction divided by the other one, which is not 0."""
+    return reduced(number[0] * other[1], number[1] * other[0])
+
+
+def over_whole(number, whole):
+    """The fraction divided by a whole number above 0."""
+    common = gcd(number[0], whole)
+    return (number[0] // common, number[1] * (whole // common))
+
+
+def is_below(number, other):
+    """Whether the first fraction is below the other one."""
+    return number[0] * other[1] < other[0] * number[1]
 
 
 def over_one_bottom(numbers):

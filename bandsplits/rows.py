@@ -2,13 +2,15 @@
 
 from bandsplits.errors import InvalidNumbers, InvalidRow
 from bandsplits.polynomials import (
-    content_of, greatest_common, over_content, product_of, span_without, whole_quotient,
+    content_of, division_of, greatest_common, multiplier_of, over_content, product_of, quotient_of, span_without,
+    whole_quotient,
 )
 from bandsplits.ratios import (
-    ZERO, is_fraction, is_whole, minus, need_whole, need_whole_between, over_one_bottom, plus, reduced,
+    ZERO, is_fraction, is_whole, minus, need_whole, need_whole_between, over_one_bottom, plus, reduced, times,
 )
 
 NOUGHT_ROW = (0, ())
+UNIT_ROW = (0, ((1, 1),))
 
 
 def is_row(value):
@@ -54,6 +56,11 @@ def number_at(row, place):
     """The row's number at the place."""
     need_row(row)
     need_whole(place)
+    return number_there(row, place)
+
+
+def number_there(row, place):
+    """As number_at, without looking whether the arguments are right."""
     start, numbers = row
     if start <= place < start + len(numbers):
         return numbers[place - start]
@@ -64,6 +71,11 @@ def added(row, other):
     """The sum of two rows."""
     need_row(row)
     need_row(other)
+    return row_sum(row, other)
+
+
+def row_sum(row, other):
+    """As added, without looking whether the arguments are right."""
     if row == NOUGHT_ROW:
         return other
     if other == NOUGHT_ROW:
@@ -81,30 +93,54 @@ def added(row, other):
 
 def opposite(row):
     """The row with the opposite numbers."""
-    need_row(row)
     return (row[0], tuple([minus(number) for number in row[1]]))
+
+
+def row_difference(row, other):
+    """The row that the other one has to be added to, to give the first."""
+    return row_sum(row, opposite(other))
 
 
 def multiplied(row, other):
     """The product of two rows."""
     need_row(row)
     need_row(other)
+    return row_product(row, other)
+
+
+def row_product(row, other):
+    """As multiplied, without looking whether the arguments are right."""
     numbers, bottom = over_one_bottom(row[1])
     others, lower = over_one_bottom(other[1])
     product = product_of(numbers, others)
     return row_from(row[0] + other[0], [reduced(number, bottom * lower) for number in product])
 
 
+def scaled(row, factor):
+    """The row with all numbers times the factor, a fraction other than 0."""
+    return (row[0], tuple([times(number, factor) for number in row[1]]))
+
+
 def later(row, places):
     """The row later by so many places."""
     need_row(row)
     need_whole_between(places, -1000, 1000)
+    return moved(row, places)
+
+
+def moved(row, places):
+    """As later, by any whole number."""
     return row_from(row[0] + places, row[1])
 
 
 def turned_round(row):
     """The row that has at each place the number at the opposite place."""
     need_row(row)
+    return mirrored(row)
+
+
+def mirrored(row):
+    """As turned_round, without looking whether the argument is right."""
     start, numbers = row
     return row_from(1 - start - len(numbers), numbers[::-1])
 
@@ -140,7 +176,6 @@ def every_second(row, shift):
 
 def spread_out(row):
     """The row that has at the double of each place the number there, and 0 at odd places."""
-    need_row(row)
     start, numbers = row
     out = [ZERO] * (2 * len(numbers))
     for at, number in enumerate(numbers):
@@ -150,13 +185,25 @@ def spread_out(row):
 
 def woven(row, other):
     """The row whose even part is the first row, and whose odd part the other one."""
-    return added(spread_out(row), later(spread_out(other), 1))
+    need_row(row)
+    need_row(other)
+    return row_with_parts(row, other)
+
+
+def row_with_parts(even, odd):
+    """As woven, without looking whether the arguments are right."""
+    return row_sum(spread_out(even), moved(spread_out(odd), 1))
 
 
 def quotient(row, other):
     """The row whose product with the other one is the first; None if there is none, or the other one is nought."""
     need_row(row)
     need_row(other)
+    return row_quotient(row, other)
+
+
+def row_quotient(row, other):
+    """As quotient, without looking whether the arguments are right."""
     if other == NOUGHT_ROW:
         return None
     numbers, bottom = over_one_bottom(row[1])
@@ -169,11 +216,23 @@ def quotient(row, other):
     return row_from(row[0] - other[0], [reduced(number * lower, bottom) for number in found])
 
 
+def row_division(row, other):
+    """The pair of a row and a rest, shorter than the other row: this times the row, and the rest, give the first.
+
+    The other row is not nought.
+    """
+    numbers, bottom = over_one_bottom(row[1])
+    others, lower = over_one_bottom(other[1])
+    rest, steps = division_of(numbers, others)
+    bottom = bottom * multiplier_of(steps)
+    found = [reduced(number * lower, bottom) for number in quotient_of(steps)]
+    left = [reduced(number, bottom) for number in rest]
+    return (row_from(row[0] - other[0], found), row_from(row[0], left))
+
+
 def common_factor(row, other):
     """The greatest common factor, from place 0 on, with 1 there; the nought row for two of these."""
     need_row(row)
     need_row(other)
-    numbers = over_one_bottom(row[1])[0]
-    others = over_one_bottom(other[1])[0]
-    found = greatest_common(over_content(numbers), over_content(others))
+    found = greatest_common(over_one_bottom(row[1])[0], over_one_bottom(other[1])[0])
     return row_from(0, [reduced(number, found[0]) for number in found])

@@ -2,9 +2,10 @@
 
 from bandsplits.errors import InvalidChannels, InvalidJoiner, InvalidSplitter, InvalidTable
 from bandsplits.rows import (
-    NOUGHT_ROW, added, alternated, even_part, is_row, later, multiplied, need_row, odd_part, opposite, quotient,
-    spread_out, woven,
+    NOUGHT_ROW, alternated, every_second, is_row, moved, need_row, row_product, row_quotient, row_sum,
+    row_with_parts, spread_out,
 )
+from bandsplits.tables import adjoint_of, table_determinant, table_product
 
 
 def is_pair(value):
@@ -49,42 +50,40 @@ def split(splitter, row):
     need_splitter(splitter)
     need_row(row)
     low, high = splitter
-    return (even_part(multiplied(low, row)), even_part(multiplied(high, row)))
+    return (every_second(row_product(low, row), 0), every_second(row_product(high, row), 0))
 
 
 def join(joiner, channels):
     """The row to which the joiner leads both channels."""
     need_joiner(joiner)
     need_channels(channels)
-    low = multiplied(joiner[0], spread_out(channels[0]))
-    high = multiplied(joiner[1], spread_out(channels[1]))
-    return added(low, high)
+    low = row_product(joiner[0], spread_out(channels[0]))
+    high = row_product(joiner[1], spread_out(channels[1]))
+    return row_sum(low, high)
 
 
 def table_of(splitter):
     """The splitter's table, a pair of pairs of rows."""
     need_splitter(splitter)
     low, high = splitter
-    return ((even_part(low), later(odd_part(low), 1)), (even_part(high), later(odd_part(high), 1)))
+    return (parts_of(low), parts_of(high))
+
+
+def parts_of(row):
+    """The line of the table that tells this row of a splitter."""
+    return (every_second(row, 0), moved(every_second(row, 1), 1))
 
 
 def splitter_with(table):
     """The splitter that has this table."""
     need_table(table)
     (low_even, low_odd), (high_even, high_odd) = table
-    return (woven(low_even, later(low_odd, -1)), woven(high_even, later(high_odd, -1)))
+    return (row_with_parts(low_even, moved(low_odd, -1)), row_with_parts(high_even, moved(high_odd, -1)))
 
 
 def determinant_of(splitter):
     """The determinant of the splitter's table."""
-    need_splitter(splitter)
     return table_determinant(table_of(splitter))
-
-
-def table_determinant(table):
-    """The determinant of a table."""
-    (upper_left, upper_right), (lower_left, lower_right) = table
-    return added(multiplied(upper_left, lower_right), opposite(multiplied(upper_right, lower_left)))
 
 
 def delay_of(splitter, joiner):
@@ -92,9 +91,10 @@ def delay_of(splitter, joiner):
     need_splitter(splitter)
     need_joiner(joiner)
     # Half of this much is made of x(z), and half of the other of x(-z), which must not come through.
-    straight = added(multiplied(joiner[0], splitter[0]), multiplied(joiner[1], splitter[1]))
-    mirrored = added(multiplied(joiner[0], alternated(splitter[0])), multiplied(joiner[1], alternated(splitter[1])))
-    if mirrored != NOUGHT_ROW or straight[1] != ((2, 1),):
+    straight = row_sum(row_product(joiner[0], splitter[0]), row_product(joiner[1], splitter[1]))
+    low, high = alternated(splitter[0]), alternated(splitter[1])
+    turned = row_sum(row_product(joiner[0], low), row_product(joiner[1], high))
+    if turned != NOUGHT_ROW or straight[1] != ((2, 1),):
         return None
     return straight[0]
 
@@ -106,16 +106,11 @@ def table_between(splitter, other):
     """
     need_splitter(splitter)
     need_splitter(other)
-    determinant = determinant_of(splitter)
-    (upper_left, upper_right), (lower_left, lower_right) = table_of(splitter)
+    table = table_of(splitter)
+    determinant = table_determinant(table)
     # The told table times the first splitter's is the other one's: the first one's is undone from the right.
-    turned = ((lower_right, opposite(upper_right)), (opposite(lower_left), upper_left))
-    found = []
-    for row in table_of(other):
-        for column in (0, 1):
-            above = multiplied(row[0], turned[0][column])
-            below = multiplied(row[1], turned[1][column])
-            found.append(quotient(added(above, below), determinant))
+    multiple = table_product(table_of(other), adjoint_of(table))
+    found = [row_quotient(row, determinant) for line in multiple for row in line]
     if None in found:
         return None
     return ((found[0], found[1]), (found[2], found[3]))
