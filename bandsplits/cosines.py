@@ -5,9 +5,9 @@ A form is a pair of a polynomial with whole numbers and a number above 0 by whic
 
 from math import lcm
 
-from bandsplits.polynomials import over_content, weighed_sum, whole_quotient, without_top
+from bandsplits.polynomials import weighed_sum, whole_quotient, without_top
 from bandsplits.ratios import over_one_bottom
-from bandsplits.rows import common_factor, mirrored, number_there, row_product, row_sum
+from bandsplits.rows import common_factor, mirrored, row_product, row_sum
 from bandsplits.tables import table_determinant
 
 

@@ -1,5 +1,7 @@
 """Rows: numbers at whole places, 0 at all but finitely many of them."""
 
+from math import lcm
+
 from bandsplits.errors import InvalidNumbers, InvalidRow
 from bandsplits.polynomials import (
     content_of, division_of, greatest_common, multiplier_of, over_content, product_of, quotient_of, span_without,
@@ -110,10 +112,28 @@ def multiplied(row, other):
 
 def row_product(row, other):
     """As multiplied, without looking whether the arguments are right."""
-    numbers, bottom = over_one_bottom(row[1])
-    others, lower = over_one_bottom(other[1])
-    product = product_of(numbers, others)
-    return row_from(row[0] + other[0], [reduced(number, bottom * lower) for number in product])
+    return sum_of_products(((row, other),))
+
+
+def sum_of_products(pairs):
+    """The sum of the products of the rows in each pair."""
+    terms = []
+    common = 1
+    for row, other in pairs:
+        numbers, bottom = over_one_bottom(row[1])
+        others, lower = over_one_bottom(other[1])
+        if numbers and others:
+            terms.append((row[0] + other[0], product_of(numbers, others), bottom * lower))
+            common = lcm(common, bottom * lower)
+    start = min([term[0] for term in terms], default=0)
+    end = max([first + len(numbers) for first, numbers, _ in terms], default=0)
+    # All is added up in whole numbers, so that each number is reduced just once.
+    total = [0] * (end - start)
+    for first, numbers, bottom in terms:
+        factor = common // bottom
+        for place, number in enumerate(numbers, start=first - start):
+            total[place] += factor * number
+    return row_from(start, [reduced(number, common) for number in total])
 
 
 def scaled(row, factor):

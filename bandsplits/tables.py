@@ -1,6 +1,6 @@
 """Tables: pairs of pairs of rows, which lead pairs of rows to pairs of rows."""
 
-from bandsplits.rows import NOUGHT_ROW, UNIT_ROW, mirrored, moved, opposite, row_difference, row_product, row_sum
+from bandsplits.rows import NOUGHT_ROW, UNIT_ROW, mirrored, moved, opposite, sum_of_products
 
 UNIT_TABLE = ((UNIT_ROW, NOUGHT_ROW), (NOUGHT_ROW, UNIT_ROW))
 
@@ -8,7 +8,7 @@ UNIT_TABLE = ((UNIT_ROW, NOUGHT_ROW), (NOUGHT_ROW, UNIT_ROW))
 def table_determinant(table):
     """The determinant of a table."""
     (upper_left, upper_right), (lower_left, lower_right) = table
-    return row_difference(row_product(upper_left, lower_right), row_product(upper_right, lower_left))
+    return sum_of_products(((upper_left, lower_right), (opposite(upper_right), lower_left)))
 
 
 def adjoint_of(table):
@@ -22,8 +22,8 @@ def table_product(table, other):
     (upper_left, upper_right), (lower_left, lower_right) = other
     return tuple([
         (
-            row_sum(row_product(left, upper_left), row_product(right, lower_left)),
-            row_sum(row_product(left, upper_right), row_product(right, lower_right)),
+            sum_of_products(((left, upper_left), (right, lower_left))),
+            sum_of_products(((left, upper_right), (right, lower_right))),
         )
         for left, right in table
     ])

@@ -3,7 +3,7 @@
 from math import gcd
 
 from bandsplits.errors import InvalidTurns
-from bandsplits.ratios import ONE, ZERO, is_below, is_fraction, is_whole, plus, reduced, times
+from bandsplits.ratios import ZERO, is_below, is_fraction, is_whole, plus, reduced, times
 from bandsplits.rows import (
     NOUGHT_ROW, alternated, every_second, mirrored, moved, need_row, number_there, row_from, row_product,
 )
