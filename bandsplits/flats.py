@@ -2,9 +2,9 @@
 
 from math import comb
 
+from bandsplits.polynomials import without_top
 from bandsplits.ratios import ONE, ZERO, need_many, need_whole_between, over_one_bottom, reduced
 from bandsplits.rows import NOUGHT_ROW, UNIT_ROW, alternated, every_second, need_row, row_from
-from bandsplits.polynomials import without_top
 
 ALL = "all"
 

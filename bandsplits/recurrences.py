@@ -64,8 +64,8 @@ def series_number(numbers, divisor, place):
         if any(below[1::2]):
             # The divisor times itself alternated has even powers alone (Bostan, Mori).
             turned = [number if at % 2 == 0 else -number for at, number in enumerate(below)]
-            above = [product_at(above, turned, at) for at in range(rest % 2, rest + 1, 2)]
-            below = [product_at(below, turned, at) for at in range(0, rest + 1, 2)]
+            above = every_second_of_product(above, turned, rest % 2, rest + 1)
+            below = every_second_of_product(below, turned, 0, rest + 1)
             power = 2 * power
         else:
             above, below = above[rest % 2::2], below[::2]
@@ -73,6 +73,11 @@ def series_number(numbers, divisor, place):
         above, below = without_top(above), without_top(below)
         rest = rest // 2
     return (above[0] if above else 0, power)
+
+
+def every_second_of_product(numbers, others, first, end):
+    """Every second number, from the first place on and before the end, of the product of two polynomials."""
+    return [product_at(numbers, others, at) for at in range(first, min(end, len(numbers) + len(others) - 1), 2)]
 
 
 def power_of(number, many):

@@ -15,10 +15,15 @@ def weights_of(numbers):
     moved = on_unit_interval(numbers)
     top = len(moved) - 1
     common = 1
-    for at in range(top + 1):
-        common = lcm(common, comb(top, at))
+    for power in range(top + 1):
+        common = lcm(common, comb(top, power))
     shares = [number * (common // comb(top, at)) for at, number in enumerate(moved)]
-    return [sum([comb(place, at) * shares[at] for at in range(place + 1)]) for place in range(top + 1)]
+    return [weight_of(shares, place) for place in range(top + 1)]
+
+
+def weight_of(shares, place):
+    """The weight at the place, of what each power has in it."""
+    return sum([comb(place, at) * shares[at] for at in range(place + 1)])
 
 
 def on_unit_interval(numbers):

@@ -1,8 +1,6 @@
 """Tables: pairs of pairs of rows, which lead pairs of rows to pairs of rows."""
 
-from bandsplits.rows import NOUGHT_ROW, UNIT_ROW, mirrored, moved, opposite, sum_of_products
-
-UNIT_TABLE = ((UNIT_ROW, NOUGHT_ROW), (NOUGHT_ROW, UNIT_ROW))
+from bandsplits.rows import mirrored, moved, opposite, sum_of_products
 
 
 def table_determinant(table):

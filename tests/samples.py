@@ -160,3 +160,120 @@ WRONG_TABLES = STRANGE + [
     UNIT, RIGHT_PAIR, (RIGHT_PAIR,), (RIGHT_PAIR, RIGHT_PAIR, RIGHT_PAIR), [RIGHT_PAIR, RIGHT_PAIR],
     (RIGHT_PAIR, UNIT), (UNIT, RIGHT_PAIR), (RIGHT_PAIR, list(RIGHT_PAIR)), ((UNIT, UNIT, UNIT), RIGHT_PAIR),
 ] + [(wrong, RIGHT_PAIR) for wrong in WRONG_PAIRS] + [(RIGHT_PAIR, wrong) for wrong in WRONG_PAIRS]
+
+SINGLES = ((1, 2),)
+
+WRONG_ENDLESS = STRANGE + [
+    UNIT, NOUGHT, ONE, (SINGLES, SINGLES), (SINGLES, ()), ((ONE, ONE), ()), ((ONE, ONE), (ONE, ONE)),
+    ((ONE, ONE, ONE), (ONE,)), ((NIL, ONE), (ONE,)), ((ONE, NIL), (ONE,)), ((NIL, NIL), (NIL,)),
+    ((NIL, ONE, ONE), (ONE, ONE)), ((ONE, ONE, NIL), (ONE, ONE)), ([ONE, ONE], (ONE,)), ((ONE, ONE), [ONE]),
+    [(ONE, ONE), (ONE,)], ((ONE, ONE), (ONE,), ()), ((ONE, ONE), ONE), (ONE, (ONE,)), ((ONE, ONE), None),
+    (None, (ONE,)), ((1, 1), (1,)), (Touchy(), Touchy()), ((Touchy(), Touchy()), (Touchy(),)),
+] + [((ONE, wrong), (ONE,)) for wrong in WRONG_FRACTIONS] + [((ONE, ONE), (wrong,)) for wrong in WRONG_FRACTIONS] + [
+    ((ONE, wrong, ONE), (ONE, NIL)) for wrong in WRONG_FRACTIONS
+]
+
+PLAIN = ((ONE, NIL), (NIL, ONE))
+
+WRONG_DIRECTIONS = STRANGE + [
+    (0, 0), (2, 2), (2, 0), (0, 2), (0, -1), (-1, 0), (-1, 2), (6, 9), (True, 1), (1, True), (1, None), ("1", 1),
+    (1, 2, 3), (1,), [1, 2], ((1, 2),), 1, (HUGE, HUGE), (ONE, ONE), (Touchy(), 1),
+]
+
+WRONG_LASTS = STRANGE + [
+    PLAIN[:1], PLAIN + PLAIN[:1], list(PLAIN), ([ONE, NIL], (NIL, ONE)), ((ONE, NIL), [NIL, ONE]),
+    ((NIL, NIL), (NIL, NIL)), ((ONE, NIL), (NIL, NIL)), ((ONE, ONE), (ONE, ONE)), ((ONE, NIL), (NIL, (2, 1))),
+    ((ONE, ONE), (NIL, ONE)), ((ONE, ONE), ((-1, 1), (2, 1))), ((ONE, (1, 2)), (NIL, ONE)), ((1, 0), (0, 1)),
+    ((UNIT, NOUGHT), (NOUGHT, UNIT)), (ONE, ONE), ((ONE,), (NIL,)), ((ONE, NIL, NIL), (NIL, ONE, NIL)),
+] + [((wrong, NIL), (NIL, ONE)) for wrong in WRONG_FRACTIONS] + [
+    ((ONE, NIL), (wrong, ONE)) for wrong in WRONG_FRACTIONS
+]
+
+WRONG_TURNS = STRANGE + [
+    (0, ()), (0, (), PLAIN, 0), [0, (), PLAIN], (0, [], PLAIN), (0, [(1, 2)], PLAIN), (0, (1, 2), PLAIN),
+    (0, ((1, -1), (1, 1)), PLAIN), (0, ((1, 0), (0, 1)), PLAIN), (0, ((1, 2), (1, 3), (3, -1)), PLAIN),
+    (0, None, PLAIN), ((), 0, PLAIN), (PLAIN, (), 0), (0, PLAIN, ()),
+] + [(wrong, (), PLAIN) for wrong in WRONG_WHOLES] + [(0, ((1, 2), wrong), PLAIN) for wrong in WRONG_DIRECTIONS] + [
+    (0, (wrong,), PLAIN) for wrong in WRONG_DIRECTIONS
+] + [(0, (), wrong) for wrong in WRONG_LASTS]
+
+EVEN_SCALE = ((ONE, 0), (ONE, 0))
+
+WRONG_STEPS = STRANGE + [
+    ("low",), ("low", UNIT, UNIT), ["low", UNIT], ("Low", UNIT), ("", UNIT), ("lo", UNIT), ("low ", UNIT), ("up", UNIT),
+    (b"low", UNIT), (0, UNIT), (None, UNIT), (Touchy(), UNIT), (UNIT, "low"), (("low",), UNIT), "lo", ("low", "high"),
+] + [("high", wrong) for wrong in WRONG_ROWS]
+
+WRONG_FACTORS = STRANGE + [
+    ONE, (ONE,), (ONE, 0, 0), [ONE, 0], (NIL, 0), (0, ONE), (ONE, ONE),
+] + [(wrong, 0) for wrong in WRONG_FRACTIONS] + [(ONE, wrong) for wrong in WRONG_WHOLES]
+
+WRONG_LADDERS = STRANGE + [
+    (EVEN_SCALE, ()), ((), EVEN_SCALE, ()), [(), EVEN_SCALE], ([], EVEN_SCALE), (None, EVEN_SCALE), ("", EVEN_SCALE),
+    ((), list(EVEN_SCALE)), ((), EVEN_SCALE[:1]), ((), EVEN_SCALE + EVEN_SCALE), ((), (1, 1)), ((), ONE), ((), 1),
+    (("low", UNIT), EVEN_SCALE), (("low", "high"), EVEN_SCALE), ((("low", UNIT),), ()), UNIT, NOUGHT,
+] + [((wrong,), EVEN_SCALE) for wrong in WRONG_STEPS] + [
+    ((("low", UNIT), wrong), EVEN_SCALE) for wrong in WRONG_STEPS
+] + [((), (wrong, (ONE, 0))) for wrong in WRONG_FACTORS] + [((), ((ONE, 0), wrong)) for wrong in WRONG_FACTORS]
+
+# Right ladders, but not whole ones.
+BROKEN_LADDERS = [
+    ((), ((factor, 0), (ONE, 0))) for factor in ((1, 2), (2, 1), (-1, 2), (-3, 1))
+] + [((("low", UNIT),), ((ONE, 0), (factor, 0))) for factor in ((1, 2), (2, 1), (-1, 3), (-2, 1))]
+
+# Right rows, but with a number that is not whole.
+BROKEN_ROWS = [(0, ((1, 2),)), (3, (ONE, (1, 3), ONE)), (-5, (ONE, ONE, (-7, 2))), (0, ((2, 3), ONE))]
+
+
+def pair_of(number):
+    """A fraction as the package tells it."""
+    kept = Fraction(number)
+    return (kept.numerator, kept.denominator)
+
+
+def row_of_numbers(start, *numbers):
+    """The row with these numbers from the place on."""
+    return row_with({start + at: number for at, number in enumerate(numbers)})
+
+
+def energy(row):
+    return sum(number * number for number in numbers_of(row).values())
+
+
+def share_of(splitter, row):
+    """The energy of both channels over that of the row."""
+    return sum(energy(channel(filter_row, row)) for filter_row in splitter) / energy(row)
+
+
+def size_by(row, cosine):
+    """The size at t = cosine, by the numbers of the row's product with itself turned round."""
+    numbers = numbers_of(row)
+    before, this, out = Fraction(2), Fraction(cosine), Fraction(0)
+    reach = max(numbers, default=0) - min(numbers, default=0)
+    for apart in range(reach + 1):
+        shared = sum((number * numbers.get(place + apart, 0) for place, number in numbers.items()), Fraction(0))
+        if apart == 0:
+            out += shared
+        else:
+            out += shared * this
+            before, this = this, cosine * this - before
+    return out
+
+
+# Splitters with each loss word, and what they are told apart by.
+SUMS_ROW, GAPS_ROW = (0, (ONE, ONE)), (0, (ONE, (-1, 1)))
+HAAR_PAIR = (SUMS_ROW, GAPS_ROW)
+
+
+def steps_table(steps):
+    """The table of steps alone, the first one first."""
+    out = ((UNIT, NOUGHT), (NOUGHT, UNIT))
+    for way, row in steps:
+        step = ((UNIT, row), (NOUGHT, UNIT)) if way == "low" else ((UNIT, NOUGHT), (row, UNIT))
+        out = table_product(step, out)
+    return out
+
+
+def splitter_from(by_table):
+    """The splitter with a table."""
+    return tuple(total(spread(line[0]), shifted(spread(line[1]), -1)) for line in by_table)

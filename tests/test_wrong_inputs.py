@@ -2,16 +2,20 @@
 
 import unittest
 
-from bandsplits import rows, splitters
+from bandsplits import circle, flats, ladders, losses, partners, rows, splitters, turns, wholes
 from bandsplits.errors import (
-    InvalidChannels, InvalidJoiner, InvalidNumber, InvalidNumbers, InvalidRow, InvalidSplitter, InvalidTable,
+    HighBelowLow, InvalidChannels, InvalidEndless, InvalidFraction, InvalidJoiner, InvalidLadder, InvalidNumber,
+    InvalidNumbers, InvalidRow, InvalidSplitter, InvalidTable, InvalidTurns, NotAPartner,
 )
 from samples import (
-    HUGE, NIL, NOUGHT, ONE, RIGHT_PAIR, STRANGE, UNIT, WRONG_FRACTIONS, WRONG_PAIRS, WRONG_ROWS, WRONG_TABLES,
-    WRONG_WHOLES,
+    BROKEN_LADDERS, BROKEN_ROWS, EVEN_SCALE, HUGE, NIL, NOUGHT, ONE, PLAIN, RIGHT_PAIR, STRANGE, UNIT, WRONG_ENDLESS,
+    WRONG_FRACTIONS, WRONG_LADDERS, WRONG_PAIRS, WRONG_ROWS, WRONG_TABLES, WRONG_TURNS, WRONG_WHOLES,
 )
 
 FAR = [1001, -1001, HUGE, -HUGE]
+HALF = (1, 2)
+LADDER = ((("high", (0, ((-1, 1),))), ("low", (-1, (HALF, NIL, ONE)))), EVEN_SCALE)
+SUMS = (0, (ONE, ONE))
 
 
 def by_given(right, error, wrongs):
@@ -30,11 +34,11 @@ def wrong_numbers():
     return [(wrong, InvalidNumbers, "index", index) for wrong, index in out]
 
 
-def wrong_channels():
+def wrong_channels(wrong_rows):
     """Wrong values for `channels`, with the index of each one's error."""
     out = [(wrong, None) for wrong in STRANGE if not isinstance(wrong, tuple)]
     out += [(wrong, None) for wrong in ((), (UNIT,), (UNIT, UNIT, UNIT), (0, 0, 0), [UNIT, UNIT], [0, 0])]
-    for wrong in WRONG_ROWS:
+    for wrong in wrong_rows:
         out += [((wrong, UNIT), 0), ((UNIT, wrong), 1), ((NOUGHT, wrong), 1), ((wrong, wrong), 0), ((wrong, 0), 0)]
         out += [((wrong,), None), ((wrong, UNIT, UNIT), None)]
     return [(wrong, InvalidChannels, "index", index) for wrong, index in out]
@@ -47,7 +51,23 @@ TABLE = by_given((RIGHT_PAIR, RIGHT_PAIR), InvalidTable, WRONG_TABLES)
 NEAR_PLACE = by_given(3, InvalidNumber, WRONG_WHOLES + FAR)
 ANY_PLACE = by_given(3, InvalidNumber, WRONG_WHOLES)
 NUMBERS = (((1, 2), NIL), wrong_numbers())
-CHANNELS = ((UNIT, NOUGHT), wrong_channels())
+CHANNELS = ((UNIT, NOUGHT), wrong_channels(WRONG_ROWS))
+
+MANY = by_given(3, InvalidNumber, WRONG_WHOLES + [0, -1, 10 ** 12 + 1, HUGE, -HUGE])
+ORDER = by_given(3, InvalidNumber, WRONG_WHOLES + [-1, 9, HUGE, -HUGE])
+ORDER_FROM_ONE = by_given(3, InvalidNumber, WRONG_WHOLES + [0, -1, 9, HUGE, -HUGE])
+ENDLESS = by_given(((ONE, (-1, 1), (-1, 1)), (NIL, ONE)), InvalidEndless, WRONG_ENDLESS)
+COSINE = by_given((-3, 2), InvalidFraction, WRONG_FRACTIONS + [(3, 1), (-3, 1), (5, 2), (-5, 2), (HUGE, 1), (-HUGE, 1)])
+LOW = by_given((-1, 2), InvalidFraction, WRONG_FRACTIONS)
+HIGH = by_given((7, 3), InvalidFraction, WRONG_FRACTIONS)
+FACTOR = by_given((-7, 3), InvalidFraction, WRONG_FRACTIONS + [NIL])
+TURNS = by_given((-3, ((1, 0), (2, -3)), PLAIN), InvalidTurns, WRONG_TURNS)
+ANY_LADDER = by_given(LADDER, InvalidLadder, WRONG_LADDERS)
+WHOLE_LADDER = by_given(LADDER, InvalidLadder, WRONG_LADDERS + BROKEN_LADDERS)
+WHOLE_ROW = by_given((-1, ((2, 1), NIL, ONE)), InvalidRow, WRONG_ROWS + BROKEN_ROWS)
+WHOLE_CHANNELS = ((UNIT, (3, ((-5, 1),))), wrong_channels(WRONG_ROWS + BROKEN_ROWS))
+SUMMING = by_given(SUMS, InvalidRow, WRONG_ROWS)
+BESIDE_SUMS = by_given(UNIT, InvalidRow, WRONG_ROWS)
 
 # Each function with its parameters, in their order.
 CALLS = [
@@ -70,6 +90,53 @@ CALLS = [
     (splitters.determinant_of, {"splitter": SPLITTER}),
     (splitters.delay_of, {"splitter": SPLITTER, "joiner": JOINER}),
     (splitters.table_between, {"splitter": SPLITTER, "other": SPLITTER}),
+    (losses.loss_word, {"splitter": SPLITTER}),
+    (losses.joiner_of, {"splitter": SPLITTER}),
+    (losses.lost_row, {"splitter": SPLITTER}),
+    (losses.value_at, {"endless": ENDLESS, "place": NEAR_PLACE}),
+    (losses.channel_values, {"splitter": SPLITTER, "endless": ENDLESS, "place": NEAR_PLACE}),
+    (losses.lost_endless, {"splitter": SPLITTER}),
+    (circle.size_at, {"row": ROW, "cosine": COSINE}),
+    (circle.touches_circle, {"row": ROW}),
+    (circle.circle_zeros, {"row": ROW}),
+    (circle.sizes_between, {"row": ROW, "low": LOW, "high": HIGH}),
+    (circle.loses_bounded, {"splitter": SPLITTER}),
+    (circle.shares_between, {"splitter": SPLITTER, "low": LOW, "high": HIGH}),
+    (circle.breaking_cosine, {"splitter": SPLITTER, "low": LOW, "high": HIGH}),
+    (circle.least_share, {"splitter": SPLITTER, "many": MANY}),
+    (circle.greatest_share, {"splitter": SPLITTER, "many": MANY}),
+    (turns.energy_factor, {"splitter": SPLITTER}),
+    (turns.is_keeper, {"splitter": SPLITTER}),
+    (turns.turns_of, {"splitter": SPLITTER}),
+    (turns.splitter_by_turns, {"turns": TURNS}),
+    (turns.keeper_with, {"row": ROW}),
+    (flats.flatness_of, {"row": ROW}),
+    (flats.roundness_of, {"row": ROW}),
+    (flats.silences, {"row": ROW, "many": MANY}),
+    (flats.carries, {"row": ROW, "many": MANY}),
+    (flats.on_power, {"row": ROW, "order": ORDER}),
+    (flats.symmetry_of, {"row": ROW}),
+    (flats.is_half_band, {"row": ROW}),
+    (flats.flattest_half_band, {"order": ORDER_FROM_ONE}),
+    (ladders.splitter_of, {"ladder": ANY_LADDER}),
+    (ladders.ladder_of, {"splitter": SPLITTER}),
+    (ladders.climbed, {"ladder": ANY_LADDER, "row": ROW}),
+    (ladders.climbed_back, {"ladder": ANY_LADDER, "channels": CHANNELS}),
+    (ladders.undoing_joiner, {"ladder": ANY_LADDER}),
+    (ladders.step_to, {"splitter": SPLITTER, "other": SPLITTER}),
+    (wholes.split_whole, {"ladder": WHOLE_LADDER, "row": WHOLE_ROW}),
+    (wholes.join_whole, {"ladder": WHOLE_LADDER, "channels": WHOLE_CHANNELS}),
+    (wholes.least_multiple, {"ladder": WHOLE_LADDER}),
+    (wholes.is_rounded, {"ladder": WHOLE_LADDER, "row": WHOLE_ROW}),
+    (wholes.rounding_bounds, {"ladder": WHOLE_LADDER}),
+    (partners.partner_of, {"row": ROW}),
+    (partners.partner_bar, {"row": ROW}),
+    (partners.is_partner, {"row": ROW, "other": ROW}),
+    (partners.partner_by, {
+        "row": SUMMING, "other": BESIDE_SUMS, "factor": FACTOR, "places": NEAR_PLACE, "step": ROW,
+    }),
+    (partners.partner_parts, {"row": SUMMING, "other": BESIDE_SUMS, "third": BESIDE_SUMS}),
+    (partners.flat_partner, {"row": ROW, "many": ORDER}),
 ]
 
 
@@ -140,6 +207,67 @@ class WrongInputs(unittest.TestCase):
             deep = (0, (deep,))
         for wrong in more + [deep]:
             self.assertIs(rows.is_row(wrong), False)
+
+    def test_what_tells_of_any_value(self):
+        for asked, right, wrongs in (
+            (losses.is_endless, ENDLESS[0], WRONG_ENDLESS), (turns.is_turns, TURNS[0], WRONG_TURNS),
+            (ladders.is_ladder, LADDER, WRONG_LADDERS),
+        ):
+            self.assertIs(asked(right), True)
+            self.assertIs(asked(value=right), True)
+            deep = []
+            for _ in range(5000):
+                deep = (deep, deep)
+            for number, wrong in enumerate(wrongs + [0.0, (0.0, 0.0), (0.0, (), PLAIN), deep, (deep, deep, deep)]):
+                with self.subTest(asked.__name__, number=number):
+                    self.assertIs(asked(wrong), False)
+                    self.assertIs(asked(value=wrong), False)
+
+    def test_a_high_end_below_the_low_one_comes_last(self):
+        for function, name, right in (
+            (circle.sizes_between, "row", ROW), (circle.shares_between, "splitter", SPLITTER),
+            (circle.breaking_cosine, "splitter", SPLITTER),
+        ):
+            for low, high in ((ONE, NIL), ((1, 2), (1, 3)), ((-1, 3), (-1, 2)), (NIL, (-1, HUGE)), ((HUGE, 1), ONE)):
+                with self.subTest(function.__name__, low=low, high=high):
+                    self.check(raised(function, right[0], low, high), HighBelowLow, "given", high)
+                    self.check(raised(function, high=high, low=low, **{name: right[0]}), HighBelowLow, "given", high)
+                    wrong, kind, attribute, value = right[1][0]
+                    self.check(raised(function, wrong, low, high), kind, attribute, value)
+            self.assertIsNone(raised(function, right[0], ONE, ONE))
+
+    def test_no_partner_comes_last(self):
+        # The partners of SUMS are those with parts u, v of which u - v is a single row.
+        one, two = (0, (ONE, ONE, ONE)), (0, (ONE, NIL, ONE))
+        self.check(raised(partners.partner_by, SUMS, SUMS, ONE, 0, NOUGHT), NotAPartner, "given", SUMS)
+        self.check(raised(partners.partner_by, NOUGHT, UNIT, ONE, 0, NOUGHT), NotAPartner, "given", UNIT)
+        self.check(raised(partners.partner_by, SUMS, NOUGHT, NIL, 0, NOUGHT), InvalidFraction, "given", NIL)
+        self.check(raised(partners.partner_by, SUMS, NOUGHT, ONE, 1001, None), InvalidNumber, "given", 1001)
+        self.check(raised(partners.partner_by, SUMS, NOUGHT, ONE, 1000, None), InvalidRow, "given", None)
+        self.check(raised(partners.partner_parts, SUMS, two, UNIT), NotAPartner, "given", two)
+        self.check(raised(partners.partner_parts, SUMS, UNIT, two), NotAPartner, "given", two)
+        self.check(raised(partners.partner_parts, SUMS, SUMS, two), NotAPartner, "given", SUMS)
+        self.check(raised(partners.partner_parts, SUMS, SUMS, None), InvalidRow, "given", None)
+        self.check(raised(partners.partner_parts, row=SUMS, third=two, other=NOUGHT), NotAPartner, "given", NOUGHT)
+        self.assertIsNone(raised(partners.partner_parts, SUMS, UNIT, one))
+
+    def test_the_ends_of_what_is_let(self):
+        for many in (1, 10 ** 12):
+            for function in (circle.least_share, circle.greatest_share):
+                self.assertIsNone(raised(function, SPLITTER[0], many))
+            for function in (flats.silences, flats.carries):
+                self.assertIsNone(raised(function, ROW[0], many))
+        for order in (0, 8):
+            self.assertIsNone(raised(flats.on_power, ROW[0], order))
+            self.assertIsNone(raised(partners.flat_partner, ROW[0], order))
+        for order in (1, 8):
+            self.assertIsNone(raised(flats.flattest_half_band, order))
+        for place in (-1000, 1000):
+            self.assertIsNone(raised(losses.value_at, ENDLESS[0], place))
+            self.assertIsNone(raised(losses.channel_values, SPLITTER[0], ENDLESS[0], place))
+            self.assertIsNone(raised(partners.partner_by, SUMS, UNIT, ONE, place, NOUGHT))
+        for cosine in ((-2, 1), (2, 1)):
+            self.assertIsNone(raised(circle.size_at, ROW[0], cosine))
 
 
 if __name__ == "__main__":
