@@ -8,6 +8,7 @@ from bandsplits.ratios import ZERO, plus, times
 from bandsplits.rows import (
     every_second, is_row, moved, opposite, row_from, row_product, row_sum, row_with_parts, scaled,
 )
+from bandsplits.splitters import is_pair
 
 SIGNS = ((1, 1), (-1, 1))
 
@@ -31,7 +32,7 @@ def need_whole_row(row):
 
 def need_whole_channels(channels):
     """Raise InvalidChannels for what is no pair of rows with whole numbers."""
-    if not isinstance(channels, tuple) or len(channels) != 2:
+    if not is_pair(channels):
         raise InvalidChannels(None)
     for index, channel in enumerate(channels):
         if not is_row(channel) or not has_whole_numbers(channel):

@@ -197,6 +197,9 @@ class Shares(unittest.TestCase):
             (STAY, 0, 4 * MANY), (beside(GAPS_ROW), 0, 4 * MANY), (beside(SIXTH), 0, 9 * MANY),
             (beside(FIFTHS), 0, 25 * MANY), (beside((0, ((1, 3),))), MANY // 9, MANY), (NONE, 0, 0),
             (beside((0, ((3, 1),))), MANY, 9 * MANY), ((UNIT, NOUGHT), 0, MANY), (beside(INSIDE), MANY, 9 * MANY),
+            # The sizes of 1 - z ** 4 are 0 at three fractions t, and 4 where t * t is 2.
+            (beside(row_of_numbers(0, 1, 0, 0, 0, -1)), 0, 4 * MANY),
+            (beside(row_of_numbers(0, Fraction(1, 2), 0, 0, 0, Fraction(1, 4))), MANY // 16, MANY),
             # The sizes of FAR_PAIR, (t - 3) ** 2, are from 1 to 25.
             (beside(FAR_PAIR), MANY, 25 * MANY), ((shifted(LEAN[0], -1000), shifted(LEAN[1], 1000)), None, None),
         ):
