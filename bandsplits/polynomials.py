@@ -183,7 +183,10 @@ def rest_modulo_prime(numbers, divisor):
 
 
 def greatest_common(numbers, others):
-    """The greatest polynomial that divides both, up to a number; no number above 1 divides all of its numbers."""
+    """The greatest polynomial that divides both, up to a number; no number above 1 divides all of its numbers.
+
+    Its last number is above 0, unless one of both is the nought polynomial.
+    """
     if not numbers or not others:
         return over_content(numbers or others)
     if have_no_common_factor_by_prime(numbers, others):
@@ -229,13 +232,11 @@ def odd_part_of_roots(numbers):
     left = whole_quotient(over_content(numbers), rest)
     out = [1]
     is_odd = True
-    # In each turn what is left are the factors that are there at least so often (Musser).
+    # In each turn what is left are the factors that are there at least so often (Musser); the first has the sign.
     while len(left) > 1:
         more = greatest_common(left, rest)
         if is_odd:
             out = product_of(out, whole_quotient(left, more))
         left, rest = more, whole_quotient(rest, more)
         is_odd = not is_odd
-    if (out[-1] > 0) != (numbers[-1] > 0):
-        out = [-number for number in out]
     return out

@@ -82,7 +82,8 @@ class Sizes(unittest.TestCase):
             (SIXTH, NIL, (9, 1), True), (SIXTH, NIL, (8, 1), False), (SIXTH, (1, HUGE), (9, 1), False),
             # t * t + t - 1, squared, is 0 at no fractions, and 25 at 2.
             (FIFTHS, NIL, (25, 1), True), (FIFTHS, NIL, (24, 1), False), (FIFTHS, (1, 10 ** 20), (25, 1), False),
-            # 3 + t - t * t: 3 1 / 4 at 1 / 2, -3 at -2.
+            # (6 + 5 t) ** 2, and (t - 3) ** 2.
+            (SLANTED, NIL, (256, 1), True), (SLANTED, (1, HUGE), (256, 1), False), (SLANTED, NIL, (255, 1), False),
             (FAR_PAIR, ONE, (25, 1), True), (FAR_PAIR, (2, 1), (25, 1), False),
         ):
             with self.subTest(row=row, low=low, high=high):
@@ -196,7 +197,7 @@ class Shares(unittest.TestCase):
             (LEAN, (3 * MANY - root - 1) // 2, (3 * MANY + root) // 2), (HAAR_PAIR, 2 * MANY, 2 * MANY),
             (STAY, 0, 4 * MANY), (beside(GAPS_ROW), 0, 4 * MANY), (beside(SIXTH), 0, 9 * MANY),
             (beside(FIFTHS), 0, 25 * MANY), (beside((0, ((1, 3),))), MANY // 9, MANY), (NONE, 0, 0),
-            (beside((0, ((3, 1),))), MANY, 9 * MANY), ((UNIT, NOUGHT), 0, MANY), (beside(INSIDE), MANY, 9 * MANY),
+            (beside((0, ((3, 1),))), MANY, 9 * MANY), (beside(SLANTED), 0, 256 * MANY), ((UNIT, NOUGHT), 0, MANY), (beside(INSIDE), MANY, 9 * MANY),
             # The sizes of 1 - z ** 4 are 0 at three fractions t, and 4 where t * t is 2.
             (beside(row_of_numbers(0, 1, 0, 0, 0, -1)), 0, 4 * MANY),
             (beside(row_of_numbers(0, Fraction(1, 2), 0, 0, 0, Fraction(1, 4))), MANY // 16, MANY),

@@ -14,7 +14,7 @@ from samples import HUGE, Maker, product, row_of_numbers
 # Polynomials of t, the lowest power first, and how many zeros they have strictly between -2 and 2.
 FACTORS = (
     ([0, 1], 1), ([-1, 1], 1), ([-2, 1], 0), ([2, 1], 0), ([-5, 1], 0), ([3, -2], 1), ([-1, 1, 1], 2), ([-2, 0, 1], 2),
-    ([1, 0, 1], 0), ([1, 1, 1], 0), ([-5, 0, 1], 0), ([-1, -3, 0, 1], 3), ([-8, 2, 0, 5], 1),
+    ([1, -3], 1), ([6, 5], 1), ([7, -3], 0), ([1, 0, 1], 0), ([1, 1, 1], 0), ([-5, 0, 1], 0), ([-1, -3, 0, 1], 3), ([-8, 2, 0, 5], 1),
 )
 
 
