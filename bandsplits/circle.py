@@ -16,9 +16,14 @@ from bandsplits.tables import table_determinant
 FIRST_DEPTH = 6
 
 
+def is_cosine(value):
+    """Whether a value, whatever it is, is a fraction from -2 to 2."""
+    return is_fraction(value) and not is_below(value, (-2, 1)) and not is_below((2, 1), value)
+
+
 def need_cosine(cosine):
     """Raise InvalidFraction for what is no fraction from -2 to 2."""
-    if not is_fraction(cosine) or is_below(cosine, (-2, 1)) or is_below((2, 1), cosine):
+    if not is_cosine(cosine):
         raise InvalidFraction(cosine)
 
 
@@ -79,6 +84,13 @@ def breaking_cosine(splitter, low, high):
     forms = share_forms(table_of(splitter))
     found = cosine_below(forms, low)
     return cosine_above(forms, high) if found is None else found
+
+
+def is_broken_at(splitter, low, high, cosine):
+    """Whether one of the four numbers of the ends is below 0 at t = cosine."""
+    forms = share_forms(table_of(splitter))
+    four = (sum_above(forms, low), product_beyond(forms, low), sum_below(forms, high), product_beyond(forms, high))
+    return any([value_at_ratio(numbers, cosine[0], cosine[1]) < 0 for numbers in four])
 
 
 def cosine_below(forms, low):

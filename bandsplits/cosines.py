@@ -7,7 +7,7 @@ from math import lcm
 
 from bandsplits.polynomials import weighed_sum, whole_quotient, without_top
 from bandsplits.ratios import over_one_bottom
-from bandsplits.rows import common_factor, mirrored, row_product, row_sum
+from bandsplits.rows import common_factor, mirrored, row_sum, size_row
 from bandsplits.tables import table_determinant
 
 
@@ -25,11 +25,6 @@ def in_cosines(numbers):
 def size_form(row):
     """The form of the row's size."""
     return symmetric_form(size_row(row))
-
-
-def size_row(row):
-    """The product of the row and itself turned round."""
-    return row_product(row, mirrored(row))
 
 
 def symmetric_form(row):

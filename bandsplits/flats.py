@@ -37,11 +37,16 @@ def roundness_of(row):
     return flatness_of(alternated(row))
 
 
+def is_flat(row, many):
+    """Whether (1 - z) ** many divides the row, for a number from 0 on."""
+    return row == NOUGHT_ROW or flatness_of(row) >= many
+
+
 def silences(row, many):
     """Whether the row makes nought of all n ** j with j below many."""
     need_row(row)
     need_many(many)
-    return row == NOUGHT_ROW or flatness_of(row) >= many
+    return is_flat(row, many)
 
 
 def carries(row, many):

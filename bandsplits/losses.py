@@ -4,7 +4,8 @@ from bandsplits.errors import InvalidEndless
 from bandsplits.ratios import ONE, ZERO, need_whole_between, over, over_one_bottom, over_whole
 from bandsplits.recurrences import is_endless_row, number_from
 from bandsplits.rows import (
-    NOUGHT_ROW, UNIT_ROW, moved, opposite, row_product, row_quotient, row_with_parts, spread_out,
+    NOUGHT_ROW, UNIT_ROW, alternated, every_second, moved, opposite, row_from, row_product, row_quotient,
+    row_with_parts, spread_out, sum_of_products,
 )
 from bandsplits.splitters import need_splitter, table_of
 from bandsplits.tables import table_determinant
@@ -137,3 +138,21 @@ def lost_by(determinant, parts):
     source = (rule, tuple([ZERO] * (many - 1) + [ONE]))
     values = [made_at(row, source, place) for place in range(many) for row in parts]
     return (spread_out(determinant)[1], tuple(values))
+
+
+def is_lost_endless(splitter, endless):
+    """Whether the endless row is not 0 everywhere, and both channels of it are."""
+    rule, values = endless
+    source, series = row_from(0, rule), row_from(0, values)
+    if series == NOUGHT_ROW:
+        return False
+    # The numbers from place 0 on are those of a polynomial over the rule, and of one over a rule of even places alone.
+    start = row_product(source, series)
+    top = row_product(row_from(start[0], start[1][:len(values) - start[0]]), alternated(source))
+    even_rule = every_second(row_product(source, alternated(source)), 0)
+    even, odd = every_second(top, 0), every_second(top, 1)
+    # Of rows that the rule makes 0 such polynomials stand for those that are 0 everywhere which it divides.
+    return all([
+        row_quotient(sum_of_products(((left, even), (right, odd))), even_rule) is not None
+        for left, right in table_of(splitter)
+    ])

@@ -1,19 +1,16 @@
 """Partners of a row: those rows with which it makes a splitter that loses nothing."""
 
 from bandsplits.errors import InvalidFraction, NotAPartner
-from bandsplits.polynomials import (
-    content_of, division_of, multiplier_of, product_of, quotient_of, weighed_sum, without_top,
-)
-from bandsplits.ratios import ZERO, is_fraction, minus, need_whole_between, over, over_one_bottom, reduced
+from bandsplits.polynomials import cofactors_of, together_over_content
+from bandsplits.ratios import ZERO, is_fraction, minus, need_whole_between, over, over_one_bottom
 from bandsplits.rows import (
-    UNIT_ROW, common_factor, every_second, moved, need_row, row_difference, row_from, row_product, row_quotient,
-    row_sum, row_with_parts, scaled, spread_out,
+    SUMS_ROW, UNIT_ROW, common_factor, every_second, moved, need_row, row_difference, row_from, row_product,
+    row_quotient, row_sum, row_with_parts, scaled, spread_product, sum_of_numbers,
 )
 from bandsplits.splitters import parts_of
 from bandsplits.tables import table_determinant
 
-GAP = (0, ((1, 1), (-1, 1)))
-SUM = (0, ((1, 1), (1, 1)))
+GAPS_ROW = (0, ((1, 1), (-1, 1)))
 
 
 def partner_of(row):
@@ -48,27 +45,6 @@ def bar_of(row):
     return None if shared == UNIT_ROW else shared
 
 
-def cofactors_of(numbers, others):
-    """The polynomials by which both, without a common factor, have to be multiplied for their sum to be a number."""
-    # Each triple is a polynomial that comes of both, and what they are multiplied by for it.
-    this, following = (numbers, [1], []), (others, [], [1])
-    while following[0]:
-        rest, steps = division_of(this[0], following[0])
-        up, factor = multiplier_of(steps), quotient_of(steps)
-        cofactors = [
-            weighed_sum(up, this[at], -1, product_of(factor, following[at]))
-            for at in (1, 2)
-        ]
-        this, following = following, together_over_content((without_top(rest), cofactors[0], cofactors[1]))
-    return (this[1], this[2])
-
-
-def together_over_content(several):
-    """The polynomials divided by the greatest whole number that divides all numbers of all of them."""
-    common = content_of([number for numbers in several for number in numbers])
-    return tuple([[number // common for number in numbers] for numbers in several])
-
-
 def determinant_with(row, other):
     """The determinant of the splitter of both rows."""
     return table_determinant((parts_of(row), parts_of(other)))
@@ -101,7 +77,7 @@ def partner_by(row, other, factor, places, step):
     need_whole_between(places, -1000, 1000)
     need_row(step)
     need_partner(row, other)
-    return row_sum(moved(scaled(other, factor), 2 * places), row_product(spread_out(step), row))
+    return row_sum(moved(scaled(other, factor), 2 * places), spread_product(row, step))
 
 
 def partner_parts(row, other, third):
@@ -134,13 +110,7 @@ def flat_partner(row, many):
         factor = minus(over(sum_of_numbers(rest), sum_of_numbers(change)))
         if factor != ZERO:
             rest = row_sum(rest, scaled(change, factor))
-        rest = row_quotient(rest, GAP)
-        flat = row_product(flat, GAP)
-        change = row_product(change, SUM)
+        rest = row_quotient(rest, GAPS_ROW)
+        flat = row_product(flat, GAPS_ROW)
+        change = row_product(change, SUMS_ROW)
     return row_product(flat, rest)
-
-
-def sum_of_numbers(row):
-    """The sum of the row's numbers."""
-    numbers, bottom = over_one_bottom(row[1])
-    return reduced(sum(numbers), bottom)

@@ -240,3 +240,37 @@ def odd_part_of_roots(numbers):
         left, rest = more, whole_quotient(rest, more)
         is_odd = not is_odd
     return out
+
+
+def cofactors_of(numbers, others):
+    """The polynomials by which both, without a common factor, have to be multiplied for their sum to be a number."""
+    # Each triple is a polynomial that comes of both, and what they are multiplied by for it.
+    this, following = (numbers, [1], []), (others, [], [1])
+    while following[0]:
+        rest, steps = division_of(this[0], following[0])
+        up, factor = multiplier_of(steps), quotient_of(steps)
+        cofactors = [
+            weighed_sum(up, this[at], -1, product_of(factor, following[at]))
+            for at in (1, 2)
+        ]
+        this, following = following, together_over_content((without_top(rest), cofactors[0], cofactors[1]))
+    return (this[1], this[2])
+
+
+def together_over_content(several):
+    """The polynomials divided by the greatest whole number that divides all numbers of all of them."""
+    common = content_of([number for numbers in several for number in numbers])
+    return tuple([[number // common for number in numbers] for numbers in several])
+
+
+def has_all_roots_inside(numbers):
+    """Whether all zeros of a polynomial other than nought, real or not, are of absolute value below 1."""
+    rest = numbers
+    # With the quotient of its first and last number below 1 there are as many inside for the shorter one (Schur, Cohn).
+    while len(rest) > 1:
+        first, last = rest[0], rest[-1]
+        if abs(first) >= abs(last):
+            return False
+        shorter = [last * number - first * more for number, more in zip(rest, rest[::-1])]
+        rest = over_content(shorter[1:])
+    return True

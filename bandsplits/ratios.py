@@ -55,6 +55,11 @@ def need_ends(low, high):
         raise HighBelowLow(high)
 
 
+def is_range(low, high):
+    """Whether two values, whatever they are, are fractions, the low end not above the high one."""
+    return is_fraction(low) and is_fraction(high) and not is_below(high, low)
+
+
 def reduced(top, bottom):
     """The fraction top / bottom; the bottom is not 0, but may be below it."""
     common = gcd(top, bottom)

@@ -13,6 +13,7 @@ from bandsplits.ratios import (
 
 NOUGHT_ROW = (0, ())
 UNIT_ROW = (0, ((1, 1),))
+SUMS_ROW = (0, ((1, 1), (1, 1)))
 
 
 def is_row(value):
@@ -136,6 +137,11 @@ def sum_of_products(pairs):
     return row_from(start, [reduced(number, common) for number in total])
 
 
+def size_row(row):
+    """The product of the row and itself turned round."""
+    return row_product(row, mirrored(row))
+
+
 def scaled(row, factor):
     """The row with all numbers times the factor, a fraction other than 0."""
     return (row[0], tuple([times(number, factor) for number in row[1]]))
@@ -203,6 +209,11 @@ def spread_out(row):
     return row_from(2 * start, out)
 
 
+def spread_product(row, other):
+    """The product of the first row and the other one spread out."""
+    return row_product(row, spread_out(other))
+
+
 def woven(row, other):
     """The row whose even part is the first row, and whose odd part the other one."""
     need_row(row)
@@ -256,3 +267,15 @@ def common_factor(row, other):
     need_row(other)
     found = greatest_common(over_one_bottom(row[1])[0], over_one_bottom(other[1])[0])
     return row_from(0, [reduced(number, found[0]) for number in found])
+
+
+def sum_of_numbers(row):
+    """The sum of the row's numbers."""
+    numbers, bottom = over_one_bottom(row[1])
+    return reduced(sum(numbers), bottom)
+
+
+def energy_of(row):
+    """The sum of the squares of the row's numbers."""
+    numbers, bottom = over_one_bottom(row[1])
+    return reduced(sum([number * number for number in numbers]), bottom * bottom)

@@ -1,9 +1,10 @@
 """Splitters, which lead a row to two channels, and joiners, which lead two channels to a row."""
 
 from bandsplits.errors import InvalidChannels, InvalidJoiner, InvalidSplitter, InvalidTable
+from bandsplits.ratios import over, plus
 from bandsplits.rows import (
-    NOUGHT_ROW, alternated, every_second, is_row, moved, need_row, row_product, row_quotient, row_sum,
-    row_with_parts, spread_out,
+    NOUGHT_ROW, alternated, energy_of, every_second, is_row, moved, need_row, row_product, row_quotient, row_sum,
+    row_with_parts, spread_product,
 )
 from bandsplits.tables import adjoint_of, table_determinant, table_product
 
@@ -39,9 +40,14 @@ def need_channels(channels):
             raise InvalidChannels(index)
 
 
+def is_table(value):
+    """Whether a value, whatever it is, is a pair of pairs of rows."""
+    return is_pair(value) and is_pair_of_rows(value[0]) and is_pair_of_rows(value[1])
+
+
 def need_table(table):
     """Raise InvalidTable for what is no pair of pairs of rows."""
-    if not is_pair(table) or not is_pair_of_rows(table[0]) or not is_pair_of_rows(table[1]):
+    if not is_table(table):
         raise InvalidTable(table)
 
 
@@ -49,17 +55,31 @@ def split(splitter, row):
     """The pair of channels to which the splitter leads the row."""
     need_splitter(splitter)
     need_row(row)
+    return channels_by(splitter, row)
+
+
+def channels_by(splitter, row):
+    """As split, without looking whether the arguments are right."""
     low, high = splitter
     return (every_second(row_product(low, row), 0), every_second(row_product(high, row), 0))
+
+
+def share_of(splitter, row):
+    """The energy of both channels over that of the row, which is not nought."""
+    low, high = channels_by(splitter, row)
+    return over(plus(energy_of(low), energy_of(high)), energy_of(row))
 
 
 def join(joiner, channels):
     """The row to which the joiner leads both channels."""
     need_joiner(joiner)
     need_channels(channels)
-    low = row_product(joiner[0], spread_out(channels[0]))
-    high = row_product(joiner[1], spread_out(channels[1]))
-    return row_sum(low, high)
+    return row_by(joiner, channels)
+
+
+def row_by(joiner, channels):
+    """As join, without looking whether the arguments are right."""
+    return row_sum(spread_product(joiner[0], channels[0]), spread_product(joiner[1], channels[1]))
 
 
 def table_of(splitter):

@@ -5,7 +5,7 @@ from math import gcd
 from bandsplits.errors import InvalidTurns
 from bandsplits.ratios import ZERO, is_below, is_fraction, is_whole, plus, reduced, times
 from bandsplits.rows import (
-    NOUGHT_ROW, alternated, every_second, mirrored, moved, need_row, number_there, row_from, row_product,
+    NOUGHT_ROW, alternated, every_second, mirrored, moved, need_row, number_there, row_from, size_row,
 )
 from bandsplits.splitters import is_pair, need_splitter, splitter_with, table_of
 from bandsplits.tables import moved_table, table_product, turned_table
@@ -85,7 +85,7 @@ def is_keeper(splitter):
 def keeper_with(row):
     """The keeper with this low row and the first high row that fits; None if there is none."""
     need_row(row)
-    if not is_above_nought(every_second(row_product(row, mirrored(row)), 0)):
+    if not is_above_nought(every_second(size_row(row), 0)):
         return None
     return (row, alternated(moved(mirrored(row), 1)))
 

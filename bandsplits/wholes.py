@@ -13,9 +13,14 @@ from bandsplits.splitters import is_pair
 SIGNS = ((1, 1), (-1, 1))
 
 
+def is_whole_ladder(value):
+    """Whether a value, whatever it is, is a ladder that is whole."""
+    return is_ladder(value) and value[1][0][0] in SIGNS and value[1][1][0] in SIGNS
+
+
 def need_whole_ladder(ladder):
     """Raise InvalidLadder for what is no ladder, or one that is not whole."""
-    if not is_ladder(ladder) or ladder[1][0][0] not in SIGNS or ladder[1][1][0] not in SIGNS:
+    if not is_whole_ladder(ladder):
         raise InvalidLadder(ladder)
 
 
