@@ -78,7 +78,7 @@ def transfer_lines(mask):
 
 
 def transfer_rule(mask):
-    """The least polynomial of Tr that makes nought of w, a tuple of fractions, the lowest power first, the last one 1."""
+    """The least polynomial p with p(Tr) w = 0: a tuple of fractions, the lowest power first, the last one 1."""
     need_mask(mask)
     return rule_of(mask)
 

@@ -277,3 +277,46 @@ def steps_table(steps):
 def splitter_from(by_table):
     """The splitter with a table."""
     return tuple(total(spread(line[0]), shifted(spread(line[1]), -1)) for line in by_table)
+
+
+def tree_of_depth(deep):
+    """The tree with pairs so deep and all of its leaves there."""
+    return None if deep == 0 else (tree_of_depth(deep - 1), tree_of_depth(deep - 1))
+
+
+def leaning_tree(deep, at=0):
+    """A tree with one leaf so deep, and the others beside the way to it."""
+    out = None
+    for _ in range(deep):
+        out = (out, None) if at == 0 else (None, out)
+    return out
+
+
+def all_trees(deepest):
+    """All trees not deeper than told."""
+    if deepest == 0:
+        return [None]
+    shorter = all_trees(deepest - 1)
+    return [None] + [(low, high) for low in shorter for high in shorter]
+
+
+WRONG_TREES = [wrong for wrong in STRANGE if wrong is not None] + [
+    (None,), (None, None, None), [None, None], ([None, None], None), (None, [None, None]), ((None,), None), (None, ()),
+    (None, 0), (0, None), ("", None), (None, False), (None, (None, True)), ((None, None, None), None), UNIT, NOUGHT,
+    {0: None, 1: None}, (Touchy(), None), (None, Touchy()), leaning_tree(5), leaning_tree(5, 1), leaning_tree(13),
+    tree_of_depth(5), (None, ((None, (None, (None, None))), None, None)), ((leaning_tree(4), None), None),
+]
+
+WRONG_MASKS = WRONG_ROWS + [
+    NOUGHT, UNIT, (0, ((5, 3),)), (1, (ONE, ONE)), (-1, (ONE, ONE)), (HUGE, (ONE, ONE)), (0, (ONE,) * 10),
+    (0, (ONE,) + (NIL,) * 8 + (ONE,)), (0, (ONE,) * 11), (3, ((1, 2), ONE, (1, 2))),
+]
+
+
+def raised(action, *by_position, **by_name):
+    """The error that a call raises; None if it returns."""
+    try:
+        action(*by_position, **by_name)
+    except ValueError as error:
+        return error
+    return None

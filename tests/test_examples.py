@@ -1,6 +1,7 @@
-"""The document's examples, to the letter, as far as they use only what is there."""
+"""The document's examples, to the letter."""
 
 import doctest
+import re
 import unittest
 
 EXAMPLES = """
@@ -76,6 +77,8 @@ Ladders, partners, whole ladders.
 
 >>> from bandsplits.ladders import climbed, climbed_back, is_ladder, ladder_of, splitter_of, step_to, undoing_joiner
 >>> from bandsplits.partners import flat_partner, is_partner, partner_bar, partner_by, partner_of, partner_parts
+>>> from bandsplits.readings import do_tell, splitter_for, splitter_read, unlike_splitter
+>>> from bandsplits.trees import fewest_numbers, fewest_tree, leaf_rows, tree_channels, tree_joined
 >>> from bandsplits.wholes import is_rounded, join_whole, least_multiple, rounding_bounds, split_whole
 >>> means = ((0, (half, half)), (0, (less, one)))
 >>> ladder = ((("high", (0, (less,))), ("low", (0, (half,)))), ((one, 0), (one, 0)))
@@ -92,16 +95,74 @@ Ladders, partners, whole ladders.
 [((1, 1), 0, (0, ((4, 1),))), (2, ((-2, 1), (2, 1))), None, True]
 >>> split(means, ramp)
 ((0, ((1, 2), (5, 2), (2, 1))), (0, ((-1, 1), (-1, 1), (4, 1))))
+
+Readings, trees.
+
+>>> [do_tell((0, (one,)), (1, (one,))), do_tell((0, (one,)), (2, ((5, 1),))), splitter_read((0, (one,)), ((0, (half,)), (0, (less,))), (1, (one,)), ((1, (half,)), (1, (one,)))) == means]
+[True, False, True]
+>>> [splitter_for((0, (two, (0, 1), two)), ((0, (one,)), (0, ()))), unlike_splitter(means, (0, (one,)), (1, (one,))), unlike_splitter(means, (0, (one,)), (2, (one,))) == means]
+[None, None, False]
+>>> leaf_rows(means, ((None, None), None))
+(((0, ((1, 4), (1, 4), (1, 4), (1, 4))), 2), ((0, ((-1, 2), (-1, 2), (1, 2), (1, 2))), 2), ((0, ((-1, 1), (1, 1))), 1))
+>>> [tree_channels(means, ((None, None), None), ramp), tree_joined(undoing_joiner(ladder), ((None, None), None), tree_channels(means, ((None, None), None), ramp)) == ramp]
+[((0, ((1, 4), (9, 4))), (0, ((-1, 2), (1, 2))), (0, ((-1, 1), (-1, 1), (4, 1)))), True]
+>>> [fewest_tree(means, (1, (one, one)), 2), fewest_numbers(means, (1, (one, one)), 2), fewest_tree(means, (0, (one, one)), 2)]
+[(None, None), 1, None]
+
+Masks.
+
+>>> from bandsplits.masks import curve_at, curve_moment, halved, has_curve, has_right_angles, inner_products, staircase, steepness, transfer, transfer_rule
+>>> box, hat, cleft = (0, (one, one)), (0, (half, one, half)), (0, (one, nil, nil, one))
+>>> [halved(box, (0, (one, two))), staircase(hat, unit, 2), transfer(box, unit), transfer(box, (-1, ((-1, 1), two, (-1, 1))))]
+[(0, ((1, 1), (1, 1), (2, 1), (2, 1))), (0, ((1, 4), (1, 2), (3, 4), (1, 1), (3, 4), (1, 2), (1, 4))), (0, ((1, 1),)), (-1, ((-1, 2), (1, 1), (-1, 2)))]
+>>> [transfer_rule(box), transfer_rule(hat), transfer_rule(cleft), has_curve(box), has_curve(hat), has_curve(cleft), has_curve((0, (one, two)))]
+[((-1, 2), (1, 1)), ((-1, 4), (1, 1)), ((-1, 2), (-1, 2), (1, 1)), True, True, False, False]
+>>> [inner_products(box), inner_products(hat), has_right_angles(box), has_right_angles(hat), steepness(box), steepness(hat), steepness(cleft)]
+[(0, ((1, 1),)), (-1, ((1, 6), (2, 3), (1, 6))), True, False, 0, 1, None]
+>>> [curve_at(hat, 1, 0), curve_at(hat, 1, 1), curve_at(hat, 5, 0), [curve_moment(hat, order) for order in (0, 1, 2)]]
+[(1, 1), (1, 2), (0, 1), [(1, 1), (1, 1), (7, 6)]]
+>>> curve_at(box, 0, 0)
+raises NotSteep()
+>>> inner_products(cleft)
+raises NoCurve()
+
+Workshops, consoles, claims.
+
+>>> from bandsplits.consoles import Console
+>>> from bandsplits.workshops import Workshop
+>>> from bandsplits.checker import accepts
+>>> from bandsplits.certificates import certify_loss
+>>> shop = Workshop()
+>>> console = Console(shop)
+>>> [console.say("put oak: 0: 1/1 1/1; 0: 1/1 -1/1"), console.say("splitter oak"), console.say("split oak: 0: 5/1 3/1 8/1"), console.say("word oak"), console.say("names")]
+['done', '0: 1/1 1/1; 0: 1/1 -1/1', '0: 5/1 11/1; 0: 5/1 5/1', 'nothing', 'oak']
+>>> shop.wish(("lossless", "oak"))
+>>> console.say("put oak: 0: 1/1 1/1; nought")
+raises Broken(index=0)
+>>> [certify_loss(haar), accepts(("finite lost", (sums, sums)), (1, ((1, 1), (-1, 1)))), accepts(("finite lost", thin), (0, ())), accepts(("nothing lost", thin), haar)]
+[(('nothing lost', ((0, ((1, 1), (1, 1))), (0, ((1, 1), (-1, 1))))), ((-1, ((1, 2), (1, 2))), (-1, ((-1, 2), (1, 2))))), True, False, False]
 """
+
+
+def told(action):
+    """Print an error that is raised as the document tells it."""
+    try:
+        action()
+    except ValueError as error:
+        print("raises {}({})".format(
+            type(error).__name__, ", ".join(f"{name}={value!r}" for name, value in vars(error).items()),
+        ))
 
 
 class Examples(unittest.TestCase):
     def test_answers(self):
-        examples = doctest.DocTestParser().get_doctest(EXAMPLES, {}, "examples", None, None)
-        told = []
-        outcome = doctest.DocTestRunner(verbose=False).run(examples, out=told.append)
-        self.assertEqual((outcome.failed, "".join(told)), (0, ""))
+        text = re.sub(r">>> (.*)\n(?=raises )", r">>> told(lambda: \1)\n", EXAMPLES)
+        examples = doctest.DocTestParser().get_doctest(text, {"told": told}, "examples", None, None)
+        shown = []
+        outcome = doctest.DocTestRunner(verbose=False).run(examples, out=shown.append)
+        self.assertEqual((outcome.failed, "".join(shown)), (0, ""))
         self.assertEqual(outcome.attempted, EXAMPLES.count(">>> "))
+        self.assertEqual(text.count("told(lambda"), EXAMPLES.count("\nraises "))
 
 
 if __name__ == "__main__":

@@ -15,7 +15,7 @@ TREES = [(path, ast.parse(path.read_text(encoding="ascii"))) for path in FILES]
 LIBRARY = {"math": {"gcd", "lcm", "isqrt", "comb", "perm", "factorial"}}
 BUILTINS = set(
     "len range enumerate zip min max sum abs sorted reversed int str bool bytes list tuple dict set frozenset "
-    "isinstance ord repr any all divmod pow map iter next getattr hasattr setattr Exception ValueError TypeError "
+    "isinstance ord repr any all divmod pow map iter next getattr hasattr setattr property Exception ValueError TypeError "
     "KeyError IndexError LookupError ZeroDivisionError ArithmeticError OverflowError RuntimeError "
     "NotImplementedError AttributeError StopIteration NotImplemented".split()
 )

@@ -2,14 +2,18 @@
 
 import unittest
 
-from bandsplits import circle, flats, ladders, losses, partners, rows, splitters, turns, wholes
+from bandsplits import (
+    certificates, circle, flats, ladders, losses, masks, partners, readings, rows, splitters, trees, turns, wholes,
+)
 from bandsplits.errors import (
-    HighBelowLow, InvalidChannels, InvalidEndless, InvalidFraction, InvalidJoiner, InvalidLadder, InvalidNumber,
-    InvalidNumbers, InvalidRow, InvalidSplitter, InvalidTable, InvalidTurns, NotAPartner,
+    HighBelowLow, InvalidChannels, InvalidEndless, InvalidFraction, InvalidJoiner, InvalidLadder, InvalidMask,
+    InvalidNumber, InvalidNumbers, InvalidRow, InvalidSplitter, InvalidTable, InvalidTree, InvalidTurns, NoCurve,
+    NotAPartner, NotSteep,
 )
 from samples import (
     BROKEN_LADDERS, BROKEN_ROWS, EVEN_SCALE, HUGE, NIL, NOUGHT, ONE, PLAIN, RIGHT_PAIR, STRANGE, UNIT, WRONG_ENDLESS,
-    WRONG_FRACTIONS, WRONG_LADDERS, WRONG_PAIRS, WRONG_ROWS, WRONG_TABLES, WRONG_TURNS, WRONG_WHOLES,
+    WRONG_FRACTIONS, WRONG_LADDERS, WRONG_MASKS, WRONG_PAIRS, WRONG_ROWS, WRONG_TABLES, WRONG_TREES, WRONG_TURNS,
+    WRONG_WHOLES, leaning_tree, raised, tree_of_depth,
 )
 
 FAR = [1001, -1001, HUGE, -HUGE]
@@ -68,6 +72,24 @@ WHOLE_ROW = by_given((-1, ((2, 1), NIL, ONE)), InvalidRow, WRONG_ROWS + BROKEN_R
 WHOLE_CHANNELS = ((UNIT, (3, ((-5, 1),))), wrong_channels(WRONG_ROWS + BROKEN_ROWS))
 SUMMING = by_given(SUMS, InvalidRow, WRONG_ROWS)
 BESIDE_SUMS = by_given(UNIT, InvalidRow, WRONG_ROWS)
+TREE = by_given(((None, None), None), InvalidTree, WRONG_TREES)
+DEEPEST = by_given(2, InvalidNumber, WRONG_WHOLES + [-1, 5, HUGE, -HUGE])
+MASK = by_given((0, (HALF, ONE, HALF)), InvalidMask, WRONG_MASKS)
+STEPS = by_given(2, InvalidNumber, WRONG_WHOLES + [-1, 7, HUGE, -HUGE])
+
+
+def wrong_leaves():
+    """Wrong values for the channels of the three leaves of TREE, with the index of each one's error."""
+    out = [(wrong, None) for wrong in STRANGE if not isinstance(wrong, tuple)]
+    out += [((UNIT,) * many, None) for many in (0, 1, 2, 4, 8)] + [((None,) * many, None) for many in (1, 2, 4)]
+    out += [([UNIT, UNIT, UNIT], None), ((UNIT, (UNIT, UNIT)), None), (((UNIT, UNIT), UNIT, UNIT), 0)]
+    for wrong in WRONG_ROWS:
+        out += [((wrong, UNIT, UNIT), 0), ((UNIT, wrong, UNIT), 1), ((NOUGHT, UNIT, wrong), 2)]
+        out += [((UNIT, wrong, 0), 1), ((wrong, wrong, wrong), 0), ((wrong, UNIT), None)]
+    return [(wrong, InvalidChannels, "index", index) for wrong, index in out]
+
+
+LEAVES = ((UNIT, NOUGHT, SUMS), wrong_leaves())
 
 # Each function with its parameters, in their order.
 CALLS = [
@@ -137,16 +159,34 @@ CALLS = [
     }),
     (partners.partner_parts, {"row": SUMMING, "other": BESIDE_SUMS, "third": BESIDE_SUMS}),
     (partners.flat_partner, {"row": ROW, "many": ORDER}),
+    (readings.do_tell, {"row": ROW, "other": ROW}),
+    (readings.splitter_for, {"row": ROW, "channels": CHANNELS}),
+    (readings.splitter_read, {"row": ROW, "channels": CHANNELS, "other": ROW, "others": CHANNELS}),
+    (readings.unlike_splitter, {"splitter": SPLITTER, "row": ROW, "other": ROW}),
+    (trees.leaf_rows, {"splitter": SPLITTER, "tree": TREE}),
+    (trees.tree_channels, {"splitter": SPLITTER, "tree": TREE, "row": ROW}),
+    (trees.tree_joined, {"joiner": JOINER, "tree": TREE, "channels": LEAVES}),
+    (trees.fewest_tree, {"splitter": SPLITTER, "row": ROW, "many": DEEPEST}),
+    (trees.fewest_numbers, {"splitter": SPLITTER, "row": ROW, "many": DEEPEST}),
+    (masks.halved, {"mask": MASK, "row": ROW}),
+    (masks.staircase, {"mask": MASK, "row": ROW, "steps": STEPS}),
+    (masks.transfer, {"mask": MASK, "row": ROW}),
+    (masks.transfer_rule, {"mask": MASK}),
+    (masks.has_curve, {"mask": MASK}),
+    (masks.inner_products, {"mask": MASK}),
+    (masks.has_right_angles, {"mask": MASK}),
+    (masks.curve_moment, {"mask": MASK, "order": ORDER}),
+    (masks.steepness, {"mask": MASK}),
+    (masks.curve_at, {"mask": MASK, "place": ANY_PLACE, "steps": STEPS}),
+    (certificates.certify_loss, {"splitter": SPLITTER}),
+    (certificates.certify_between, {"splitter": SPLITTER, "low": LOW, "high": HIGH}),
+    (certificates.certify_keeper, {"splitter": SPLITTER}),
+    (certificates.certify_partner, {"row": ROW}),
+    (certificates.certify_flat, {"row": ROW, "order": ORDER}),
+    (certificates.certify_curve, {"mask": MASK}),
+    (certificates.certify_telling, {"row": ROW, "other": ROW}),
+    (certificates.certify_rounding, {"ladder": WHOLE_LADDER, "many": MANY}),
 ]
-
-
-def raised(function, *by_position, **by_name):
-    """The error that a call raises; None if it returns."""
-    try:
-        function(*by_position, **by_name)
-    except ValueError as error:
-        return error
-    return None
 
 
 class WrongInputs(unittest.TestCase):
@@ -211,7 +251,8 @@ class WrongInputs(unittest.TestCase):
     def test_what_tells_of_any_value(self):
         for asked, right, wrongs in (
             (losses.is_endless, ENDLESS[0], WRONG_ENDLESS), (turns.is_turns, TURNS[0], WRONG_TURNS),
-            (ladders.is_ladder, LADDER, WRONG_LADDERS),
+            (ladders.is_ladder, LADDER, WRONG_LADDERS), (trees.is_tree, TREE[0], WRONG_TREES),
+            (masks.is_mask, MASK[0], WRONG_MASKS),
         ):
             self.assertIs(asked(right), True)
             self.assertIs(asked(value=right), True)
@@ -226,7 +267,7 @@ class WrongInputs(unittest.TestCase):
     def test_a_high_end_below_the_low_one_comes_last(self):
         for function, name, right in (
             (circle.sizes_between, "row", ROW), (circle.shares_between, "splitter", SPLITTER),
-            (circle.breaking_cosine, "splitter", SPLITTER),
+            (circle.breaking_cosine, "splitter", SPLITTER), (certificates.certify_between, "splitter", SPLITTER),
         ):
             for low, high in ((ONE, NIL), ((1, 2), (1, 3)), ((-1, 3), (-1, 2)), (NIL, (-1, HUGE)), ((HUGE, 1), ONE)):
                 with self.subTest(function.__name__, low=low, high=high):
@@ -251,7 +292,51 @@ class WrongInputs(unittest.TestCase):
         self.check(raised(partners.partner_parts, row=SUMS, third=two, other=NOUGHT), NotAPartner, "given", NOUGHT)
         self.assertIsNone(raised(partners.partner_parts, SUMS, UNIT, one))
 
+    def test_no_curve_comes_last(self):
+        # The parts of the first one do not sum to 1, and staircases of the second one do not come to a curve.
+        for mask in ((0, (ONE, (2, 1))), (0, (ONE, NIL, NIL, ONE))):
+            for function, more in (
+                (masks.inner_products, {}), (masks.has_right_angles, {}), (masks.curve_moment, {"order": 0}),
+                (masks.curve_moment, {"order": 8}),
+            ):
+                with self.subTest(function.__name__, mask=mask):
+                    for error in (raised(function, mask, *more.values()), raised(function, mask=mask, **more)):
+                        self.assertIs(type(error), NoCurve)
+                        self.assertEqual(vars(error), {})
+            for order in (-1, 9, None, True):
+                self.check(raised(masks.curve_moment, mask, order), InvalidNumber, "given", order)
+                self.check(raised(masks.curve_moment, order=order, mask=mask), InvalidNumber, "given", order)
+
+    def test_not_steep_comes_last(self):
+        # The second and the third one have no curve.
+        for mask in ((0, (ONE, ONE)), (0, (ONE, (2, 1))), (0, (ONE, NIL, NIL, ONE))):
+            for place, steps in ((0, 0), (1, 6), (-HUGE, 3), (HUGE, 0)):
+                for error in (raised(masks.curve_at, mask, place, steps),
+                              raised(masks.curve_at, steps=steps, place=place, mask=mask)):
+                    self.assertIs(type(error), NotSteep)
+                    self.assertEqual(vars(error), {})
+            self.check(raised(masks.curve_at, mask, None, 7), InvalidNumber, "given", None)
+            self.check(raised(masks.curve_at, mask, 0, 7), InvalidNumber, "given", 7)
+
     def test_the_ends_of_what_is_let(self):
+        for deep in range(5):
+            self.assertIs(trees.is_tree(tree_of_depth(deep)), True)
+            self.assertIs(trees.is_tree(leaning_tree(deep, 0)), True)
+            self.assertIs(trees.is_tree(leaning_tree(deep, 1)), True)
+        for many in (0, 4):
+            self.assertIsNone(raised(trees.fewest_tree, SPLITTER[0], ROW[0], many))
+            self.assertIsNone(raised(trees.fewest_numbers, SPLITTER[0], ROW[0], many))
+        for steps in (0, 6):
+            self.assertIsNone(raised(masks.staircase, MASK[0], ROW[0], steps))
+            self.assertIsNone(raised(masks.curve_at, MASK[0], HUGE, steps))
+        for many in (2, 9):
+            self.assertIs(masks.is_mask((0, (ONE,) * many)), True)
+            self.assertIs(masks.is_mask((0, ((-1, HUGE),) + (NIL,) * (many - 2) + ((HUGE, 1),))), True)
+        for order in (0, 8):
+            self.assertIsNone(raised(masks.curve_moment, MASK[0], order))
+            self.assertIsNone(raised(certificates.certify_flat, ROW[0], order))
+        for many in (1, 10 ** 12):
+            self.assertIsNone(raised(certificates.certify_rounding, LADDER, many))
         for many in (1, 10 ** 12):
             for function in (circle.least_share, circle.greatest_share):
                 self.assertIsNone(raised(function, SPLITTER[0], many))
