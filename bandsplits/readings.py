@@ -1,10 +1,10 @@
 """Splitters read off rows and their channels."""
 
-from bandsplits.losses import lost_parts
+from bandsplits.losses import lost_parts, near_nought
 from bandsplits.polynomials import cofactors_of, product_at
 from bandsplits.ratios import over_one_bottom, reduced
 from bandsplits.rows import (
-    NOUGHT_ROW, common_factor, every_second, need_row, opposite, row_from, row_product, row_quotient, row_sum,
+    NOUGHT_ROW, common_factor, every_second, moved, need_row, opposite, row_from, row_product, row_quotient, row_sum,
     sum_of_products,
 )
 from bandsplits.splitters import channels_by, need_channels, need_splitter, splitter_with, table_of
@@ -106,6 +106,8 @@ def unlike_splitter(splitter, row, other):
     need_row(other)
     if parts_determinant(row, other) != NOUGHT_ROW:
         return None
-    by_even, by_odd = lost_parts((both_parts(row), both_parts(other)))
+    by_even, by_odd = near_nought(lost_parts((both_parts(row), both_parts(other))))
     (low_even, low_odd), high = table_of(splitter)
-    return splitter_with(((row_sum(low_even, by_even), row_sum(low_odd, by_odd)), high))
+    # Any multiple may be added; this one is where the low row is.
+    places = splitter[0][0] // 2
+    return splitter_with(((row_sum(low_even, moved(by_even, places)), row_sum(low_odd, moved(by_odd, places))), high))

@@ -103,7 +103,9 @@ class Certificates(unittest.TestCase):
         # Single rows at even and odd places have unlike shares; or they lean on others at even, odd, or both places.
         for splitter in (
             (UNIT, NOUGHT), (UNIT, (1, ((2, 1),))), (row_of_numbers(0, 1, 0, 2), row_of_numbers(1, 2, 0, 1)),
-            (row_of_numbers(0, 1, 0, 1), (1, ((1, 1), NIL, (1, 1)))), (row_of_numbers(0, 3, 4), row_of_numbers(0, 4, 3)),
+            (row_of_numbers(0, 1, 0, 1), (1, ((1, 1), NIL, (1, 1)))), ((0, ((3, 5), NIL, (4, 5))), (1, (ONE,))),
+            (UNIT, (-1, ((3, 5), NIL, (4, 5)))), ((NOUGHT, (-999, ((3, 5), NIL, NIL, NIL, (-4, 5))))),
+            ((1, (ONE,)), (-20, ((3, 5), NIL, NIL, NIL, (-4, 5)))), (row_of_numbers(0, 3, 4), row_of_numbers(0, 4, 3)),
             (row_of_numbers(0, 3, 4), row_of_numbers(5, 3, 0, 0, 4)), (SUMS_ROW, SUMS_ROW), NOTHING,
             ((0, (ONE, NIL, NIL, NIL, NIL, NIL, NIL, ONE)), (0, (ONE, ONE))), (row_of_numbers(0, 2, 1), row_of_numbers(-9, 1, 2)),
         ):

@@ -117,6 +117,8 @@ NOT_SO = [
     (("between", STAY, NIL, (3, 1)), [(), TWO]), (("not between", HAAR, TWO, TWO), [(), NIL, TWO, (-2, 1)]),
     (("not between", STAY, NIL, FOUR), [NIL, TWO, (-2, 1)]), (("keeper", STAY), [HAAR_TURNS, ()]),
     (("keeper", NOTHING), [(0, (), PLAIN)]), (("no keeper", HAAR), [(UNIT, UNIT), (UNIT, ODD_UNIT), (SUMS_ROW, FAR)]),
+    # Rows one of whose parts 1 + z divides, but not the other one.
+    (("no partner", (0, (ONE, ONE, ONE))), [SUMS_ROW]), (("no partner", (0, (ONE, ONE, NIL, ONE))), [SUMS_ROW]),
     (("partner", BARRED), [UNIT, ODD_UNIT, BARRED, NOUGHT]), (("partner", NOUGHT), [UNIT, NOUGHT, SUMS_ROW]),
     (("no partner", SUMS_ROW), [UNIT, SUMS_ROW, NOUGHT, (3, (TWO,))]), (("flat", GAPS_ROW, 2), [()]),
     (("flat", UNIT, 1), [()]), (("not flat", GAPS_ROW, 1), [()]), (("not flat", NOUGHT, 8), [()]),

@@ -203,7 +203,11 @@ class Curves(unittest.TestCase):
             self.assertIs(has_curve(edge(little)), told)
 
     def test_both_parts_must_sum_to_one(self):
-        for mask in ((0, (ONE, (2, 1))), (0, ((2, 1), ONE)), (0, ((1, 2), (1, 2))), (0, ((1, 3), (1, 3), (1, 3)))):
+        # For the first two w is led to nought, but one of both parts sums to 1 / 2.
+        for mask in (
+            (0, (ONE, (1, 2))), (0, ((1, 2), ONE)), (0, (ONE, (2, 1))), (0, ((2, 1), ONE)), (0, ((1, 2), (1, 2))),
+            (0, ((1, 3), (1, 3), (1, 3))),
+        ):
             self.assertIs(has_curve(mask), False)
             self.assertIsNone(steepness(mask))
 
