@@ -14,32 +14,15 @@ from bandsplits.losses import joiner_of, loss_word
 from bandsplits.masks import has_curve
 from bandsplits.partners import partner_bar
 from bandsplits.readings import do_tell
-from bandsplits.turns import energy_factor, splitter_by_turns, turns_of
+from bandsplits.turns import energy_factor, turns_of
 from bandsplits.wholes import least_multiple
+from kinds import splitters
 from samples import (
-    EVEN_SCALE, GAPS_ROW, HAAR_PAIR, HUGE, NIL, NOUGHT, ONE, PLAIN, SUMS_ROW, UNIT, Maker, pair_of, product,
-    row_of_numbers, share_of, shifted, splitter_from, spread, steps_table, times,
+    EVEN_SCALE, GAPS_ROW, NIL, NOUGHT, ONE, SUMS_ROW, UNIT, Maker, pair_of, product, row_of_numbers, share_of, shifted,
+    spread,
 )
 
 NOTHING = (NOUGHT, NOUGHT)
-THIN = ((0, (ONE, NIL, ONE)), (1, (ONE,)))
-
-
-def splitters(seed, many):
-    """Splitters of each kind."""
-    maker = Maker(seed)
-    draw = maker.random.randint
-    for _ in range(many):
-        yield maker.pair(most=4, reach=3)
-        row = maker.row(most=3)
-        yield (product(row, SUMS_ROW), product(row, GAPS_ROW))
-        yield (row, times(Fraction(draw(-2, 2)), shifted(row, 2 * draw(-2, 2))))
-        steps = [(maker.random.choice(("low", "high")), maker.row(most=2, reach=2)) for _ in range(3)]
-        yield splitter_from(steps_table(steps))
-        yield splitter_by_turns((draw(-3, 3), ((1, draw(1, 9)), (2, 1 + 2 * draw(0, 4))), PLAIN))
-    yield from [HAAR_PAIR, THIN, NOTHING, (UNIT, NOUGHT), (NOUGHT, UNIT), (SUMS_ROW, SUMS_ROW), (UNIT, (1, (ONE,)))]
-    yield from [(UNIT, UNIT), ((-1000, (ONE,)), (999, ((-1, HUGE),))), ((0, (ONE, NIL, NIL, NIL, ONE)), (7, (ONE,)))]
-    yield from [(row_of_numbers(0, 1, 0, 2), row_of_numbers(1, 2, 0, 1)), (row_of_numbers(0, 3, 4), row_of_numbers(0, 4, 3))]
 
 
 class Certificates(unittest.TestCase):

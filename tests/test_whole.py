@@ -24,9 +24,9 @@ from bandsplits.splitters import delay_of, determinant_of, join, split, splitter
 from bandsplits.trees import leaf_rows, tree_channels, tree_joined
 from bandsplits.turns import energy_factor, is_keeper, keeper_with, splitter_by_turns, turns_of
 from bandsplits.workshops import Workshop
+from kinds import splitters
 from samples import (
-    GAPS_ROW, HAAR_PAIR, NIL, NOUGHT, ONE, PLAIN, SUMS_ROW, UNIT, Maker, energy, pair_of, product, raised,
-    row_of_numbers, share_of, shifted, splitter_from, spread, steps_table, times, total,
+    HAAR_PAIR, NIL, NOUGHT, ONE, Maker, energy, pair_of, product, raised, row_of_numbers, share_of, spread, total,
 )
 
 TREES = (None, (None, None), ((None, None), None), (None, ((None, None), (None, None))), ((None, (None, None)), None))
@@ -67,21 +67,6 @@ INTERFACE = {
     "certify_partner(row) certify_flat(row,order) certify_curve(mask) certify_telling(row,other) "
     "certify_rounding(ladder,many)",
 }
-
-
-def splitters(seed, many):
-    """Splitters of each kind: with each loss word, keepers and others."""
-    maker = Maker(seed)
-    draw = maker.random.randint
-    for _ in range(many):
-        yield maker.pair(most=4, reach=3)
-        row = maker.row(most=3)
-        yield (product(row, SUMS_ROW), product(row, GAPS_ROW))
-        yield (row, times(Fraction(draw(-2, 2)), shifted(row, 2 * draw(-2, 2))))
-        steps = [(maker.random.choice(("low", "high")), maker.row(most=2, reach=2)) for _ in range(3)]
-        yield splitter_from(steps_table(steps))
-        yield splitter_by_turns((draw(-3, 3), ((1, draw(1, 9)), (2, 1 + 2 * draw(0, 4))), PLAIN))
-    yield from [HAAR_PAIR, (NOUGHT, NOUGHT), (UNIT, NOUGHT), (UNIT, (1, (ONE,))), ((0, (ONE, NIL, ONE)), (1, (ONE,)))]
 
 
 class Whole(unittest.TestCase):
