@@ -11,10 +11,7 @@ def led_by(lines, line):
 
 def less_on_diagonal(lines, number):
     """The lines, the number taken away from the first one's first number, the second one's second number, .."""
-    out = [list(line) for line in lines]
-    for at, line in enumerate(out):
-        line[at] -= number
-    return out
+    return [line[:at] + [line[at] - number] + line[at + 1:] for at, line in enumerate(lines)]
 
 
 def weighed_difference(up, line, down, other):
